@@ -1,0 +1,1 @@
+"""Patchlots: what lots of patches make, in whatever order."""

@@ -1,0 +1,148 @@
+"""What several test files use: any objects, random things, and slow oracles by the definitions."""
+
+import random
+from itertools import combinations, permutations
+
+from patchlots.bares import Bare
+from patchlots.lots import Lot
+from patchlots.pages import Page
+from patchlots.patches import Patch
+from patchlots.places import made_by
+
+A = Patch("a", ["x", "y"], [(("a", 0), ("a", 1))])
+B = Patch("b", ["m"], [(("a", 0), ("b", 0)), (("b", 0), ("a", 1))])
+C = Patch("c", [], burials=[("a", 0)])
+D = Patch("d", [], backs=[("c", ("a", 0))])
+
+# Things that are no line, order, name, words, patch, change or list of some of these, nor empty.
+JUNK = [
+    None, True, False, -1, 10 ** 17, "A", "1a", "a.b", "a" * 13, "\n", "w" * 201 + "\n",
+    {"a": 1}, {("a", 0): "x"}, [None], [[["a", 0]]], ["a", True], ["a", 0, 0], ("A", 0), ("a", -1),
+    (("a", 0),), [("a", 0), ("a", 0), 3], Page({}, [], []), Patch("a", []), Lot([]), Bare([], [], []),
+    [{}], (Page({}, [], []), 0), [[], []],
+]
+
+
+def caught(error, call, *args, **named):
+    """The error of just this class that a call raises."""
+    try:
+        told = call(*args, **named)
+    except error as why:
+        if type(why) is not error:
+            raise AssertionError(f"{type(why).__name__} instead of {error.__name__}") from why
+        return why
+    raise AssertionError(f"{told!r} instead of {error.__name__}")
+
+
+def exact(told, wanted):
+    """Whether two values are the same, of the same kinds at every depth."""
+    if type(told) is not type(wanted):
+        return False
+    if isinstance(told, (list, tuple)):
+        return len(told) == len(wanted) and all(exact(a, b) for a, b in zip(told, wanted))
+    if isinstance(told, dict):
+        return exact(list(told.items()), list(wanted.items()))
+    return told == wanted
+
+
+def as_lists(thing):
+    """The thing with lists for tuples, at every depth (keys of dicts excepted)."""
+    if isinstance(thing, (list, tuple)):
+        return [as_lists(item) for item in thing]
+    return thing
+
+
+def as_tuples(thing):
+    """The thing with tuples for lists, at every depth."""
+    if isinstance(thing, (list, tuple)):
+        return tuple(as_tuples(item) for item in thing)
+    return thing
+
+
+def random_page(rng, most=6, rings=True):
+    """A page of lines of a few names, their orders along a hidden row if no rings may be."""
+    lines = [(rng.choice("abc"), rng.randrange(4)) for _ in range(rng.randint(0, most))]
+    lines = list(dict.fromkeys(lines))
+    rng.shuffle(lines)
+    pairs = list(permutations(lines, 2)) if rings else list(combinations(lines, 2))
+    share = rng.choice([0.1, 0.2, 0.4, 0.7])
+    orders = [pair for pair in pairs if rng.random() < (share / 2 if rings else share)]
+    dead = [line for line in lines if rng.random() < rng.choice([0, 0.3])]
+    return Page({line: rng.choice(["", "x", "y z"]) for line in lines}, orders, dead)
+
+
+def random_patches(rng, count):
+    """Patches that make a lot, each needing some of the earlier ones."""
+    names = rng.sample(["a", "b", "c1", "d", "e9", "f", "g", "h", "i", "j"], count)
+    patches = []
+    for name in names:
+        before = [line for patch in patches for line in patch.own_lines()]
+        texts = [rng.choice(["", "x", "y y", "order a.0"]) for _ in range(rng.choice([0, 0, 1, 2]))]
+        lines = before + [(name, number) for number in range(len(texts))]
+        pairs = list(permutations(lines, 2))
+        orders = rng.sample(pairs, min(len(pairs), rng.choice([0, 0, 1, 2, 3])))
+        burials = [line for line in before if rng.random() < 0.2]
+        backs = [(patch.called(), line) for patch in patches for line in patch.burials()
+                 if rng.random() < 0.3]
+        patches.append(Patch(name, texts, orders, burials, backs))
+    rng.shuffle(patches)
+    return patches
+
+
+def random_lot(rng, most=6):
+    return Lot(random_patches(rng, rng.randint(0, most)))
+
+
+def random_change(rng, text):
+    while True:
+        place = rng.randint(0, len(text))
+        old = text[place:place + rng.choice([0, 0, 1, 1, 2])]
+        new = [rng.choice("uvw") for _ in range(rng.choice([0, 0, 1, 1, 2]))]
+        if old or new:
+            return (place, old, new)
+
+
+def random_run(rng, text, names):
+    run = []
+    for name in names:
+        run.append((name, random_change(rng, text)))
+        text = made_by(text, run[-1][1])
+    return run
+
+
+def random_text(rng, most):
+    return [rng.choice("abc") for _ in range(rng.randint(0, most))]
+
+
+def walks(orders, start):
+    """All that one or more arrows lead to from start."""
+    found = set()
+    grown = {other for one, other in orders if one == start}
+    while not grown <= found:
+        found |= grown
+        grown = {other for one, other in orders if one in found}
+    return found
+
+
+def slow_aheads(page):
+    """The set of pairs of lines the first of which is ahead of the second."""
+    orders = page.orders()
+    return {(one, other) for one in page.lines() for other in walks(orders, one)}
+
+
+def slow_rows(page):
+    """All rows, by trying all lists of the live lines."""
+    ahead = slow_aheads(page)
+    return [list(row) for row in permutations(page.live())
+            if not any((row[b], row[a]) in ahead for a, b in combinations(range(len(row)), 2))]
+
+
+def slow_reads(page):
+    ahead = slow_aheads(page)
+    live = page.live()
+    return not any((line, line) in ahead for line in live) and all(
+        ((one, other) in ahead) != ((other, one) in ahead) for one, other in combinations(live, 2))
+
+
+def seeds(count):
+    return [random.Random(number) for number in range(count)]

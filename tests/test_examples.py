@@ -1,0 +1,61 @@
+"""Points 19, 31 and 42: the examples, as they are written."""
+
+import unittest
+
+from patchlots.crossing import lot_of_run
+from patchlots.histories import histories, how_many_histories, how_many_parts, is_history, parts_of
+from patchlots.lots import Lot, page_of
+from patchlots.needs import rounds_of
+from patchlots.pages import Page
+from patchlots.patches import Patch
+from patchlots.places import passed
+from patchlots.reading import gone, reading, text_of, unordered
+from patchlots.rows import how_many_rows, rows_of
+from patchlots.runs import all_leads, stuck_pairs
+
+A0, A1, B0, C0 = ("a", 0), ("a", 1), ("b", 0), ("c", 0)
+
+
+class Examples(unittest.TestCase):
+    def test_19(self):
+        lines = {A0: "", A1: "", B0: "", C0: ""}
+        orders = [(A0, A1), (A0, B0), (B0, A1), (A0, C0), (C0, A1)]
+        page = Page(lines, orders, [])
+        self.assertEqual(unordered(page), (("b", 0), ("c", 0)))
+        self.assertEqual(len(rows_of(page)), 2)
+        self.assertEqual(how_many_rows(page), 2)
+        self.assertEqual(reading(Page(lines, orders, [C0])), [A0, B0, A1])
+        page = Page(lines, orders, [A0, A1])
+        self.assertEqual(gone(page), [B0, C0])
+        self.assertEqual(unordered(page), (B0, C0))
+
+    def test_31(self):
+        a = Patch("a", ["x", "y"], [(("a", 0), ("a", 1))])
+        b = Patch("b", ["m"], [(("a", 0), ("b", 0)), (("b", 0), ("a", 1))])
+        c = Patch("c", [], burials=[A0])
+        d = Patch("d", [], backs=[("c", A0)])
+        lot = Lot([a, b, c, d])
+        self.assertEqual(text_of(page_of(lot)), ["x", "m", "y"])
+        self.assertEqual(text_of(page_of(Lot([a, b, c]))), ["m", "y"])
+        self.assertEqual(d.needs(), ["a", "c"])
+        self.assertEqual(rounds_of(lot), [["a"], ["b", "c"], ["d"]])
+        self.assertEqual([len(histories(lot)), how_many_histories(lot)], [3, 3])
+        self.assertEqual([len(parts_of(lot)), how_many_parts(lot)], [7, 7])
+
+    def test_42(self):
+        one, two = (0, ["a"], ["x", "y"]), (3, ["c"], [])
+        self.assertEqual(passed(one, two), ((2, ["c"], []), (0, ["a"], ["x", "y"])))
+        self.assertIsNone(passed((1, [], ["p"]), (1, ["p"], [])))
+        self.assertIsNone(passed((1, ["b"], []), (1, [], ["q"])))
+        self.assertEqual(passed((1, ["b"], []), (1, ["c"], [])), ((2, ["c"], []), (1, ["b"], [])))
+        text = ["a", "b", "c"]
+        run = [("p", (1, ["b"], [])), ("q", (1, [], ["q"]))]
+        self.assertEqual(stuck_pairs(text, run), [("p", "q")])
+        self.assertTrue(is_history(lot_of_run("g", text, run), ["g", "q", "p"]))
+        s, p, q, t = [("s", (1, [], ["x"])), ("p", (1, ["x"], [])), ("q", (1, [], ["y"])), ("t", (1, ["y"], []))]
+        self.assertEqual(lot_of_run("g", ["a", "b"], [s, p, q, t]), lot_of_run("g", ["a", "b"], [q, t, s, p]))
+        self.assertEqual(all_leads(["a", "b"], [s, p, q, t]), [["s", "p", "q", "t"]])
+
+
+if __name__ == "__main__":
+    unittest.main()
