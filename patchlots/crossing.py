@@ -61,8 +61,7 @@ def place_of(patch, live):
     marks = [live.index(line) for line in patch.burials() if line in live]
     if len(marks) > 0:
         return min(marks) - 1
-    own = patch.own_lines()[:1]
-    marks = [live.index(one) for one, other in patch.orders() if one in live and other in own]
+    marks = [live.index(one) for one, _ in patch.orders() if one in live]
     return marks[0] if len(marks) > 0 else None
 
 

@@ -45,8 +45,8 @@ def wrong_name(lot, names):
 
 
 def names_from(nexts, names):
-    """The dict of True of some names and of all to which arrows lead from them."""
-    found = {name: True for name in names}
+    """The dict whose keys are some names and all to which arrows lead from them."""
+    found = {name: name for name in names}
     for name in names:
         found.update(reached(nexts, name))
     return found

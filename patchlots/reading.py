@@ -78,7 +78,7 @@ def ring(page):
 def is_ring(page, thing):
     """Whether any object is a ring of the page."""
     lines = page.lines()
-    if not is_list(thing) or len(thing) == 0 or not all([is_line_of(line, lines) for line in thing]):
+    if not is_list(thing) or not all([is_line_of(line, lines) for line in thing]):
         return False
     told = [line_of(line) for line in thing]
     orders = set(page.orders())

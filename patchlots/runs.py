@@ -85,7 +85,7 @@ def stuck_pairs(text, run):
     places = [places_in(names) for names in leads]
     names = sorted(leads[0])
     return [(one, other) for one in names for other in names
-            if one != other and all([place[one] < place[other] for place in places])]
+            if all([place[one] < place[other] for place in places])]
 
 
 def led(text, run, names):

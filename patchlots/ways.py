@@ -10,29 +10,14 @@ def nexts_of(points, arrows):
 
 
 def reached(nexts, start):
-    """The dict of True whose keys are the points to which one or more arrows lead."""
-    found = {}
-    level = [start]
-    while len(level) > 0:
-        further = []
-        for point in level:
-            for other in nexts[point]:
-                if other not in found:
-                    found[other] = True
-                    further.append(other)
-        level = further
-    return found
+    """The dict from each point that one or more arrows lead to from start to the one ahead of it.
 
-
-def shortest_walk(nexts, start, goal):
-    """The points along as few arrows as can be, one or more, from start to goal, or None.
-
-    Of several such lists it is the first one, if those of nexts are ascending: the points
-    of a level are met in the order of the first lists that lead to them.
+    So one comes back along as few arrows as can be. Of several such walks it is the first one, if
+    the lists of nexts are ascending: points are met in the order of the first walks to them.
     """
     back = {}
     level = [start]
-    while len(level) > 0 and goal not in back:
+    while len(level) > 0:
         further = []
         for point in level:
             for other in nexts[point]:
@@ -40,6 +25,12 @@ def shortest_walk(nexts, start, goal):
                     back[other] = point
                     further.append(other)
         level = further
+    return back
+
+
+def shortest_walk(nexts, start, goal):
+    """The points along as few arrows as can be, one or more, from start to goal, or None."""
+    back = reached(nexts, start)
     if goal not in back:
         return None
     walk = [goal, back[goal]]

@@ -58,7 +58,7 @@ class LotTexts(unittest.TestCase):
         for row in ("", " ", "patch", "patch ", "patch B", "patch b ", "patch  b", "patch b c", "Patch b", "patch 1",
                     "patch abcdefghijklm", "says", "say x", "says\tx", "line a.0 x", "dead a.0 x", "order", "order ",
                     "order a.0", "order a.0 ", "order a.0 a.0", "order a.0 a.01", "order a.0  a.1", "order a.0 a.1 ",
-                    "bury", "bury ", "bury b", "bury b.", "bury b.00", "bury b.-1", "bury  b.0", "bury b.0 ",
+                    "bury", "bury ", "bury b", "bury b.", "bury b.00", "bury b.-1", "bury b.z", "bury b.1z", "bury b.1 0", "bury  b.0", "bury b.0 ",
                     "bury b.0 b.1", "buries b.0", "back", "back b", "back b c.0 ", "back  b c.0", "back b  c.0",
                     "back B c.0", "back b c", "back b.0 c.0", "back b c.0 d.0", "says " + "w" * 201, "order a.\u0661 b.0"):
             self.assertEqual(caught(BadText, read_lot, HEAD + row + "\nnonsense\n").index, 3, row)
@@ -73,7 +73,8 @@ class LotTexts(unittest.TestCase):
                      "back b c.0\norder a.0 a.1\n", "order a.1 a.0\norder a.0 a.1\n", "order a.0 a.1\norder a.0 a.1\n",
                      "bury b.1\nbury b.0\n", "bury b.10\nbury b.9\n", "bury b.0\nbury b.0\n",
                      "back b c.0\nback b c.0\n", "back c b.0\nback b c.0\n", "back b c.1\nback b c.0\n",
-                     "patch c\npatch b\n", "patch c\npatch c\n", "patch b1\npatch b\n"):
+                     "order a.0 a.1\norder a.0 c.0\norder a.0 b.0\n", "bury b.0\nbury d.0\nbury c.0\n",
+                     "back b c.0\nback d c.0\nback c b.0\n", "patch c\npatch b\n", "patch c\npatch c\n", "patch b1\npatch b\n"):
             text = HEAD + rows
             self.assertEqual(caught(BadText, read_lot, text + "nonsense\n").index, text.count("\n") - 1, rows)
 

@@ -131,6 +131,8 @@ class Chains(unittest.TestCase):
                     if found is not None:
                         self.assertIn(found, chains)
                         self.assertEqual(len(found), len(chains[0]))
+                        patches = [lot.patch_of(name) for name in lot.names()[::-1]]
+                        self.assertTrue(exact(needs_chain(other=other, lot=Lot(tuple(patches)), one=one), found))
                     for told in permutations(lot.names(), 2):
                         self.assertIs(is_needs_chain(lot, one, other, told), list(told) in chains)
                     for told in chains:

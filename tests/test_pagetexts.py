@@ -37,7 +37,7 @@ class PageTexts(unittest.TestCase):
 
     def test_rows_that_are_not_so_written(self):
         for row in ("", " ", "line", "line ", "line a.0", "line a", "line a. x", "line .0 x", "line a.00 x",
-                    "line a.01 x", "line a.-1 x", "line a.+1 x", "line a.1_0 x", "line a.\u0661 x", "line A.0 x",
+                    "line a.01 x", "line a.-1 x", "line a.+1 x", "line a.1_0 x", "line a.z x", "line a.1z x", "line a.\u0661 x", "line A.0 x",
                     "line 0a.0 x", "line  a.5 x", "lines a.5 x", "Line a.5 x", " line a.5 x", "line a,5 x",
                     "live a.5 x", "line a.5.1 x", "line abcdefghijklm.0 x", "line a.5\tx", "bury a.5", "patch a",
                     "line a.5 " + "w" * 201, "dead a.5", "deadline a.5 x", "line a.5 x\r\nx",

@@ -169,11 +169,9 @@ class Rings(unittest.TestCase):
             self.assertEqual(None if found is None else len(found), shortest)
             if found is not None:
                 self.assertIs(is_ring(page, found), True)
-                self.assertTrue(exact(found, as_listed(found)))
-
-
-def as_listed(lines):
-    return [(name, number) for name, number in lines]
+                self.assertTrue(exact(found, [(name, number) for name, number in found]))
+                same = Page(dict(list(page.lines().items())[::-1]), as_tuples(orders[::-1]), as_lists(page.dead()[::-1]))
+                self.assertTrue(exact(ring(page=same), found))
 
 
 class Gone(unittest.TestCase):
