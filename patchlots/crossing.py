@@ -50,7 +50,7 @@ def lot_of_steps(ground, text, steps):
 def lot_of_run(ground, text, run):
     """The lot of a run for a text, the ground's patch called so."""
     words = checked_text(text)
-    steps = steps_of(words, run, {})
+    steps = steps_of(words, run, [])
     if not is_name(ground) or ground in names_of(steps):
         raise BadName(ground)
     return lot_of_steps(ground, words, steps)

@@ -9,12 +9,12 @@ from patchlots.ways import places_in
 def steps_of(text, run, taken):
     """The steps of a run for a list of words, as they are told, or BadStep.
 
-    Taken is a dict whose keys are names that its steps may not have.
+    Taken are names that its steps may not have.
     """
     if not is_list(run):
         raise BadStep(0)
     steps = []
-    names = {name: True for name in taken}
+    names = list(taken)
     words = text
     for index, thing in enumerate(run):
         if not is_pair(thing) or not is_name(thing[0]) or thing[0] in names:
@@ -23,7 +23,7 @@ def steps_of(text, run, taken):
             raise BadStep(index)
         change = change_of(thing[1])
         steps.append((thing[0], change))
-        names[thing[0]] = True
+        names.append(thing[0])
         words = put_in(words, change)
     return steps
 
@@ -35,7 +35,7 @@ def names_of(steps):
 def text_behind(text, run):
     """The text that all steps of a run make of a text."""
     words = checked_text(text)
-    for _, change in steps_of(words, run, {}):
+    for _, change in steps_of(words, run, []):
         words = put_in(words, change)
     return words
 
@@ -52,7 +52,7 @@ def turned_at(steps, index):
 
 def passed_at(text, run, index):
     """The run in which the steps with this index and the next one have passed, or None."""
-    steps = steps_of(checked_text(text), run, {})
+    steps = steps_of(checked_text(text), run, [])
     if not is_integer(index) or not 0 <= index < len(steps) - 1:
         raise BadIndex(index)
     return turned_at(steps, index)
@@ -76,7 +76,7 @@ def leads_of(steps):
 
 def all_leads(text, run):
     """The lists of the names of the runs to which a run leads, in THE ORDER."""
-    return sorted([names_of(steps) for steps in leads_of(steps_of(checked_text(text), run, {}))])
+    return sorted([names_of(steps) for steps in leads_of(steps_of(checked_text(text), run, []))])
 
 
 def stuck_pairs(text, run):
@@ -94,7 +94,7 @@ def led(text, run, names):
     Steps have the order of a list of names. None if no passes lead there: a pair of neighbours
     that touch stands so in all runs to which a run leads, so it may not stand the other way about.
     """
-    steps = steps_of(checked_text(text), run, {})
+    steps = steps_of(checked_text(text), run, [])
     if not are_just_names(names, names_of(steps)):
         raise BadList(names)
     places = places_in(names)
@@ -132,8 +132,8 @@ def fewest_passes(text, run, names):
 def put_beside(text, run, other):
     """What another run for the same text becomes behind a run, None if two changes touch."""
     words = checked_text(text)
-    steps = steps_of(words, run, {})
-    beside = steps_of(words, other, {name: True for name, _ in steps})
+    steps = steps_of(words, run, [])
+    beside = steps_of(words, other, names_of(steps))
     changes = [change for _, change in steps]
     found = []
     for name, change in beside:
