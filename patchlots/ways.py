@@ -76,13 +76,17 @@ def places_in(things):
     return {thing: index for index, thing in enumerate(things)}
 
 
+def ways_between(page, lines):
+    """For each of all lines of a page, in this order, the mask of those that it is ahead of."""
+    places = places_in(lines)
+    return closure(len(lines), [(places[one], places[other]) for one, other in page.orders()])
+
+
 def live_ways(page):
     """The live lines of a page, and for each the mask of those of them that it is ahead of."""
     live = page.live()
-    places = places_in(live + page.dead())
-    masks = closure(len(places), [(places[one], places[other]) for one, other in page.orders()])
     everything = (1 << len(live)) - 1
-    return live, [mask & everything for mask in masks[:len(live)]]
+    return live, [mask & everything for mask in ways_between(page, live + page.dead())[:len(live)]]
 
 
 def numbers_in(mask, count):

@@ -1,10 +1,10 @@
 """What several test files use: any objects, random things, and slow oracles by the definitions."""
 
 import random
-from itertools import combinations, permutations
+from itertools import combinations, permutations, product
 
 from patchlots.bares import Bare
-from patchlots.lots import Lot
+from patchlots.lots import Lot, page_of
 from patchlots.pages import Page
 from patchlots.patches import Patch
 from patchlots.places import made_by
@@ -93,6 +93,40 @@ def random_lot(rng, most=6):
     return Lot(random_patches(rng, rng.randint(0, most)))
 
 
+def random_short_lot(rng, most=5, lines=3, wild=0.3, putting=0.25):
+    """A lot of few lines: a ground that puts most of them, and patches that order, bury and undo."""
+    ground = Patch("g", ["w"] * rng.randint(1, lines))
+    patches = [ground]
+    for name in rng.sample("abcdefhij", rng.randint(1, most)):
+        own = [(name, 0)] if rng.random() < putting else []
+        known = [line for patch in patches for line in patch.own_lines()] + own
+        pairs = list(permutations(known, 2)) if rng.random() < wild else list(combinations(known, 2))
+        orders = rng.sample(pairs, min(len(pairs), rng.choice([0, 1, 1, 2, 3])))
+        burials = [line for line in known if line not in own and rng.random() < 0.15]
+        backs = [(patch.called(), line) for patch in patches for line in patch.burials()
+                 if rng.random() < 0.4]
+        patches.append(Patch(name, [name] * len(own), orders, burials, backs))
+    return Lot(patches)
+
+
+def slow_parts(lot):
+    """The names of all parts, in THE ORDER OF CHOICES."""
+    return [list(names) for count in range(len(lot) + 1) for names in combinations(lot.names(), count)
+            if all(set(lot.patch_of(name).needs()) <= set(names) for name in names)]
+
+
+def page_of_part(lot, names):
+    return page_of(Lot([lot.patch_of(name) for name in names]))
+
+
+def least_in(parts):
+    return [names for names in parts if not any(set(other) < set(names) for other in parts)]
+
+
+def greatest_in(parts):
+    return [names for names in parts if not any(set(other) > set(names) for other in parts)]
+
+
 def random_change(rng, text):
     while True:
         place = rng.randint(0, len(text))
@@ -112,6 +146,41 @@ def random_run(rng, text, names):
 
 def random_text(rng, most):
     return [rng.choice("abc") for _ in range(rng.randint(0, most))]
+
+
+def random_bare(rng, most=5, signs="xxy"):
+    count = rng.randint(0, most)
+    pairs = [pair for pair in product(range(count), repeat=2) if rng.random() < 0.25]
+    return Bare([rng.choice(signs) for _ in range(count)], pairs,
+                [point for point in range(count) if rng.random() < 0.3])
+
+
+def shuffled(rng, bare):
+    """The bare page with its points numbered otherwise, and the list of what each became."""
+    way = list(range(len(bare)))
+    rng.shuffle(way)
+    told = [None] * len(way)
+    for point, words in enumerate(bare.told_words()):
+        told[way[point]] = words
+    return Bare(told, [(way[one], way[other]) for one, other in bare.arrows()],
+                [way[point] for point in bare.dead_points()]), way
+
+
+def slow_is_map(one, other, way):
+    told, dead, aheads = other.told_words(), other.dead_points(), other.aheads()
+    return (all(told[end] == words for end, words in zip(way, one.told_words()))
+            and all(way[point] in dead for point in one.dead_points())
+            and all((way[i], way[j]) in aheads for i, j in one.aheads()))
+
+
+def slow_maps(one, other):
+    """All maps, by trying all tuples."""
+    return [way for way in product(range(len(other)), repeat=len(one)) if slow_is_map(one, other, way)]
+
+
+def text_of_words(words):
+    """The bare page that is a text of these words."""
+    return Bare(words, list(combinations(range(len(words)), 2)), [])
 
 
 def walks(orders, start):

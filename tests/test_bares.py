@@ -1,21 +1,13 @@
 """Point 44, and put_together of point 49: bare pages."""
 
 import unittest
-from itertools import product
 
 from patchlots.bares import Bare, bare_of, put_together
 from patchlots.errors import BadArrow, BadClasses, BadDead, BadTold
 from patchlots.pages import Page
-from tests.helping import JUNK, as_lists, caught, exact, random_page, seeds, walks
+from tests.helping import JUNK, as_lists, caught, exact, random_bare, random_page, seeds, walks
 
 BARE = Bare(["x", "", "x", "y"], [(0, 1), (1, 3), (2, 2)], [3])
-
-
-def random_bare(rng):
-    count = rng.randint(0, 5)
-    pairs = [pair for pair in product(range(count), repeat=2) if rng.random() < 0.25]
-    return Bare([rng.choice("xxy") for _ in range(count)], pairs,
-                [point for point in range(count) if rng.random() < 0.3])
 
 
 def told(bare):

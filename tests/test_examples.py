@@ -1,17 +1,23 @@
-"""Points 19, 31 and 42: the examples, as they are written."""
+"""Points 19, 31, 42, 50 and 59: the examples, as they are written."""
 
 import unittest
 
+from patchlots.bares import Bare
+from patchlots.clashes import clashes, keeping_patch, lost_lines
 from patchlots.crossing import lot_of_run
+from patchlots.gluing import glued
 from patchlots.histories import histories, how_many_histories, how_many_parts, is_history, parts_of
 from patchlots.lots import Lot, page_of
 from patchlots.needs import rounds_of
+from patchlots.overtexts import clash_over, texts_over
 from patchlots.pages import Page
 from patchlots.patches import Patch
 from patchlots.places import passed
+from patchlots.readable import odd_pairs, readable_parts
 from patchlots.reading import gone, reading, text_of, unordered
 from patchlots.rows import how_many_rows, rows_of
 from patchlots.runs import all_leads, stuck_pairs
+from patchlots.turning import greatest_straight, least_ordering, least_turning
 
 A0, A1, B0, C0 = ("a", 0), ("a", 1), ("b", 0), ("c", 0)
 
@@ -55,6 +61,33 @@ class Examples(unittest.TestCase):
         s, p, q, t = [("s", (1, [], ["x"])), ("p", (1, ["x"], [])), ("q", (1, [], ["y"])), ("t", (1, ["y"], []))]
         self.assertEqual(lot_of_run("g", ["a", "b"], [s, p, q, t]), lot_of_run("g", ["a", "b"], [q, t, s, p]))
         self.assertEqual(all_leads(["a", "b"], [s, p, q, t]), [["s", "p", "q", "t"]])
+
+    def test_50(self):
+        common = Bare(["a", "c"], [(0, 1)], [])
+        for dead in ([], [1]):
+            one = Bare(["a", "x", "c"], [(0, 1), (1, 2)], dead)
+            other = Bare(["a", "y", "c"], [(0, 1), (1, 2)], [])
+            span = [common, one, other, (0, 2), (0, 2)]
+            page = Bare(["a", "x", "c", "y"], [(0, 1), (0, 3), (1, 2), (3, 2)], dead)
+            self.assertEqual(glued(span), (page, (0, 1, 2), (0, 3, 2)))
+            if not dead:
+                self.assertEqual(clash_over(span), (1, 1))
+                self.assertEqual(texts_over(span), [((0, 1, 3), (0, 2, 3)), ((0, 2, 3), (0, 1, 3))])
+
+    def test_59(self):
+        a = Patch("a", ["x", "y", "z"])
+        x, y, z = a.own_lines()
+        b, c, d = Patch("b", [], [(x, y)]), Patch("c", [], [(y, z)]), Patch("d", [], [(z, x)])
+        self.assertEqual(clashes(page_of(Lot([a]))), [("apart", x, y), ("apart", x, z), ("apart", y, z)])
+        lot = Lot([a, b, c, d])
+        self.assertEqual(least_turning(lot), [["a", "b", "c", "d"]])
+        three = [["a", "b", "c"], ["a", "b", "d"], ["a", "c", "d"]]
+        self.assertEqual(greatest_straight(lot), three)
+        self.assertEqual(readable_parts(lot), [[], *three])
+        self.assertEqual(odd_pairs(lot), [])
+        self.assertEqual(least_ordering(lot, x, z), [["a", "d"], ["a", "b", "c"]])
+        self.assertEqual(lost_lines(lot), [x, y, z])
+        self.assertEqual(keeping_patch(lot, "k"), Patch("k", [], [], [x, y, z]))
 
 
 if __name__ == "__main__":

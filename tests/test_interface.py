@@ -34,6 +34,16 @@ FUNCTIONS = {
             "led_to(text, run, names) fewest_passes(text, run, names) put_beside(text, run, other)",
     "crossing": "lot_of_run(ground, text, run) run_of_lot(ground, lot, names)",
     "bares": "bare_of(page) put_together(bare, classes)",
+    "maps": "is_map(one, other, thing) maps(one, other) likeness(one, other) parted_by(one, other)",
+    "gluing": "is_landing(span, thing) glued(span) through(span, thing) is_glue(span, thing) shared(corner)",
+    "overtexts": "texts_over(span) clash_over(span)",
+    "clashes": "knots(page) clashes(page) new_clashes(one, other) lost_lines(lot) lost_ring(lot, line) "
+               "keeping_patch(lot, name)",
+    "turning": "least_turning(lot) greatest_straight(lot) least_ordering(lot, one, other) "
+               "greatest_unordered(lot, one, other)",
+    "readable": "readable_parts(lot) least_unreadable(lot) greatest_readable(lot) odd_pairs(lot) "
+                "least_ends(lot, names, clash)",
+    "smooth": "smooth_history(lot) stuck_parts(lot) is_stuck(lot, thing)",
 }
 CLASSES = {
     ("pages", "Page"): "__init__(self, lines, orders, dead) lines(self) orders(self) dead(self) live(self) "

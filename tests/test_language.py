@@ -19,7 +19,7 @@ NODES = (
 )
 BUILTINS = set("""len range enumerate zip min max sum sorted reversed str list tuple set isinstance any all""".split())
 KINDS = {"str", "int", "bool", "list", "tuple", "dict"}
-METHODS = set("""append extend index items join partition pop remove split startswith endswith update values
+METHODS = set("""append count extend index items join partition pop remove split startswith endswith update values
 get add""".split())
 SPECIAL = {"__init__", "__eq__", "__len__", "__or__", "__and__", "__contains__"}
 AT_ONCE = {"zip", "enumerate", "reversed", "items", "keys", "values"}
@@ -154,7 +154,7 @@ class Language(unittest.TestCase):
                 if isinstance(node.func, ast.Name):
                     self.assertIn(node.func.id, own | BUILTINS, (name, node.lineno))
                     if node.func.id in BUILTINS:
-                        self.assertTrue({word.arg for word in node.keywords} <= {"key", "default"})
+                        self.assertTrue({word.arg for word in node.keywords} <= {"key", "default", "reverse"})
                 else:
                     self.assertIn(node.func.attr, methods | METHODS, (name, node.lineno))
 
