@@ -213,5 +213,37 @@ def slow_reads(page):
         ((one, other) in ahead) != ((other, one) in ahead) for one, other in combinations(live, 2))
 
 
+def slow_stayers(page):
+    ahead = slow_aheads(page)
+    return [line for line in page.live() if (line, line) not in ahead]
+
+
+def slow_stays(page):
+    """All stays, the empty one, too."""
+    ahead = slow_aheads(page)
+    stays = [[]]
+    for stay in stays:
+        stays += [stay + [line] for line in slow_stayers(page) if not stay or (stay[-1], line) in ahead]
+    return stays
+
+
+def slow_loose(page, lines):
+    ahead = slow_aheads(page)
+    return all((one, other) not in ahead for one, other in permutations(lines, 2))
+
+
+def slow_matches(one, other):
+    return [(i, j) for i, j in product(range(len(one)), range(len(other))) if one[i] == other[j]]
+
+
+def slow_common_rows(one, other):
+    """All common rows, the empty one, too."""
+    matches = slow_matches(one, other)
+    rows = [[]]
+    for row in rows:
+        rows += [row + [(i, j)] for i, j in matches if not row or (row[-1][0] < i and row[-1][1] < j)]
+    return rows
+
+
 def seeds(count):
     return [random.Random(number) for number in range(count)]

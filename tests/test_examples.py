@@ -1,10 +1,13 @@
-"""Points 19, 31, 42, 50 and 59: the examples, as they are written."""
+"""Points 19, 31, 42, 50, 59, 71, 79 and 86: the examples, as they are written."""
 
 import unittest
 
 from patchlots.bares import Bare
 from patchlots.clashes import clashes, keeping_patch, lost_lines
+from patchlots.columns import columns, richest_stay, scattered
+from patchlots.commonrows import many_common_rows, matches_in_all, surely_kept
 from patchlots.crossing import lot_of_run
+from patchlots.differences import cut_text, difference, is_difference
 from patchlots.gluing import glued
 from patchlots.histories import histories, how_many_histories, how_many_parts, is_history, parts_of
 from patchlots.lots import Lot, page_of
@@ -17,6 +20,9 @@ from patchlots.readable import odd_pairs, readable_parts
 from patchlots.reading import gone, reading, text_of, unordered
 from patchlots.rows import how_many_rows, rows_of
 from patchlots.runs import all_leads, stuck_pairs
+from patchlots.settling import cheapest_settlement, fewest_orders
+from patchlots.stays import always_stay, longest_stay, stay_levels
+from patchlots.trees import FileTree, troubles
 from patchlots.turning import greatest_straight, least_ordering, least_turning
 
 A0, A1, B0, C0 = ("a", 0), ("a", 1), ("b", 0), ("c", 0)
@@ -88,6 +94,36 @@ class Examples(unittest.TestCase):
         self.assertEqual(least_ordering(lot, x, z), [["a", "d"], ["a", "b", "c"]])
         self.assertEqual(lost_lines(lot), [x, y, z])
         self.assertEqual(keeping_patch(lot, "k"), Patch("k", [], [], [x, y, z]))
+
+    def test_71(self):
+        page = Page(dict.fromkeys([A0, A1, B0, C0], ""), [(A0, A1), (A0, B0), (B0, A1), (A0, C0), (C0, A1)], [])
+        self.assertEqual(len(longest_stay(page)), 3)
+        self.assertEqual(always_stay(page), [("a", 0), ("a", 1)])
+        self.assertEqual(stay_levels(page), [[("a", 0)], [("b", 0), ("c", 0)], [("a", 1)]])
+        self.assertEqual(len(columns(page)), 2)
+        self.assertEqual(scattered(page), [("b", 0), ("c", 0)])
+        self.assertEqual(len(fewest_orders(page)), 1)
+        self.assertEqual([cheapest_settlement(page, price)[0] for price in (1, 2, 3, 10)], [1, 1, 1, 1])
+        self.assertEqual(richest_stay(page, {A0: 1, A1: 1, B0: 2, C0: 5}), (7, [A0, C0, A1]))
+
+    def test_79(self):
+        one, other = list("abcab"), list("cabc")
+        self.assertEqual(many_common_rows(one, other), 2)
+        self.assertEqual(matches_in_all(one, other), [])
+        self.assertEqual(surely_kept(one, other), [2])
+        cuts = [[(0, 0, ["c"]), (3, 2, [])], [(0, 2, []), (5, 0, ["c"])]]
+        self.assertIn(difference(one, other), cuts)
+        for told in cuts:
+            self.assertTrue(is_difference(one, told))
+            self.assertEqual(cut_text(one, told), other)
+
+    def test_86(self):
+        kinds = dict.fromkeys([A0, B0, C0], "directory")
+        placings = {A0: (A0, (None, "a"), []), B0: (B0, (None, "b"), []), C0: (C0, (None, "c"), [])}
+        moved = {("x", 0): (A0, (B0, "a"), [A0]), ("y", 0): (B0, (C0, "b"), [B0]), ("z", 0): (C0, (A0, "c"), [C0])}
+        trees = [FileTree(kinds, {**placings, mark: triple}, []) for mark, triple in moved.items()]
+        self.assertEqual([troubles(trees[at] | trees[at - 1]) for at in range(3)], [[], [], []])
+        self.assertEqual(troubles(trees[0] | trees[1] | trees[2]), [("round", ("a", 0), ("b", 0), ("c", 0))])
 
 
 if __name__ == "__main__":

@@ -44,6 +44,20 @@ FUNCTIONS = {
     "readable": "readable_parts(lot) least_unreadable(lot) greatest_readable(lot) odd_pairs(lot) "
                 "least_ends(lot, names, clash)",
     "smooth": "smooth_history(lot) stuck_parts(lot) is_stuck(lot, thing)",
+    "settling": "with_orders(page, orders) with_buried(page, lines) settles(page, orders, lines) jumps(page, row) "
+                "fewest_orders(page) cheapest_settlement(page, price) turned_pairs(page, one, other)",
+    "stays": "ring_through(page, line) stayers(page) longest_stay(page) fewest_buried(page) is_stay(page, thing) "
+             "stay_levels(page) is_levelling(page, thing) always_stay(page) sometimes_stay(page)",
+    "columns": "richest_stay(page, worths) worth_cover(page, worths) is_worth_cover(page, worths, thing) "
+               "columns(page) scattered(page) are_columns(page, thing) is_scattered(page, thing)",
+    "commonrows": "common_row(one, other) is_common_row(one, other, thing) least_cover(one, other) "
+                  "is_cover(one, other, thing) many_common_rows(one, other) matches_in_all(one, other) "
+                  "matches_in_some(one, other) surely_kept(one, other) surely_taken(one, other)",
+    "differences": "is_difference(text, thing) cut_text(text, cuts) difference(one, other) "
+                   "turned_round(text, cuts) patch_to(lot, text, name)",
+    "threetexts": "gaps(base, one, other, left, right) merged(base, one, other, left, right) "
+                  "merge_somehow(base, one, other) clash_somehow(base, one, other) all_merged(base, one, other)",
+    "trees": "paths_of(tree) troubles(tree)",
 }
 CLASSES = {
     ("pages", "Page"): "__init__(self, lines, orders, dead) lines(self) orders(self) dead(self) live(self) "
@@ -55,6 +69,8 @@ CLASSES = {
                      "__eq__(self, other)",
     ("bares", "Bare"): "__init__(self, told, arrows, dead) told_words(self) arrows(self) dead_points(self) "
                        "aheads(self) __len__(self) __eq__(self, other)",
+    ("trees", "FileTree"): "__init__(self, entries, placings, dead) entries(self) placings(self) dead(self) "
+                           "alive(self) places_of(self, entry) __or__(self, other) __eq__(self, other)",
 }
 
 
