@@ -8,6 +8,7 @@ from patchlots.lots import Lot, page_of
 from patchlots.pages import Page
 from patchlots.patches import Patch
 from patchlots.places import made_by
+from patchlots.trees import FileTree
 
 A = Patch("a", ["x", "y"], [(("a", 0), ("a", 1))])
 B = Patch("b", ["m"], [(("a", 0), ("b", 0)), (("b", 0), ("a", 1))])
@@ -19,7 +20,7 @@ JUNK = [
     None, True, False, -1, 10 ** 17, "A", "1a", "a.b", "a" * 13, "\n", "w" * 201 + "\n",
     {"a": 1}, {("a", 0): "x"}, [None], [[["a", 0]]], ["a", True], ["a", 0, 0], ("A", 0), ("a", -1),
     (("a", 0),), [("a", 0), ("a", 0), 3], Page({}, [], []), Patch("a", []), Lot([]), Bare([], [], []),
-    [{}], (Page({}, [], []), 0), [[], []],
+    [{}], (Page({}, [], []), 0), [[], []], FileTree({}, {}, []), [FileTree({}, {}, [])],
 ]
 
 
