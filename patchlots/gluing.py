@@ -65,7 +65,7 @@ def glued(span):
     count = len(one)
     pairs = [(left[point], count + right[point]) for point in range(len(common))]
     both = set_beside(one, other)
-    nexts = nexts_of(range(len(both)), pairs + [(end, start) for start, end in pairs])
+    nexts = nexts_of(list(range(len(both))), pairs + [(end, start) for start, end in pairs])
     firsts = [min(list(reached(nexts, point)) + [point]) for point in range(len(both))]
     classes = numbered(firsts)
     return (put_together(both, classes), tuple(classes[:count]), tuple(classes[count:]))

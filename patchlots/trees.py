@@ -106,7 +106,7 @@ def is_placing(kinds, placings, mark, thing):
     return is_place(kinds, thing[1]) and are_olds(placings, mark, line_of(thing[0]), thing[2])
 
 
-def place_of(thing):
+def place_in_tree(thing):
     """The place, as it is told, that a pair is."""
     return (None if thing[0] is None else line_of(thing[0]), thing[1])
 
@@ -126,7 +126,7 @@ def checked_placings(kinds, placings):
     told = {}
     for mark in sorted(placings):
         entry, place, olds = placings[mark]
-        told[mark] = (line_of(entry), place_of(place), sorted([line_of(old) for old in olds]))
+        told[mark] = (line_of(entry), place_in_tree(place), sorted([line_of(old) for old in olds]))
     return told
 
 

@@ -22,7 +22,7 @@ KINDS = {"str", "int", "bool", "list", "tuple", "dict"}
 METHODS = set("""append count extend index items join partition pop remove split startswith endswith update values
 get add""".split())
 SPECIAL = {"__init__", "__eq__", "__len__", "__or__", "__and__", "__contains__"}
-AT_ONCE = {"zip", "enumerate", "reversed", "items", "keys", "values"}
+AT_ONCE = {"zip", "enumerate", "reversed", "range", "items", "keys", "values"}
 HOLDERS = {"list", "tuple", "dict", "sorted", "sum", "any", "all", "enumerate", "zip"}
 WORDS = set("""type typing typing_extensions enum Enum IntEnum StrEnum Flag IntFlag Generic Protocol ABC ABCMeta
 namedtuple NamedTuple TypedDict TYPE_CHECKING abstractmethod dataclass overload contextmanager register mro elements
@@ -177,7 +177,12 @@ class Language(unittest.TestCase):
                 if called_name(node) in AT_ONCE:
                     holder = above[node]
                     good = isinstance(holder, (ast.For, ast.comprehension)) and holder.iter is node
-                    self.assertTrue(good or called_name(holder) in HOLDERS, (name, node.lineno))
+                    good = good or called_name(holder) in HOLDERS and isinstance(holder.func, ast.Name)
+                    if called_name(node) == "range":
+                        good = good or called_name(holder) in ("len", "reversed")
+                    elif called_name(holder) in ("min", "max"):
+                        good = not any(word.arg == "key" for word in holder.keywords)
+                    self.assertTrue(good, (name, node.lineno))
 
     def test_nothing_iterated_is_modified(self):
         for name, node in self.walk():
