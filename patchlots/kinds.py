@@ -17,6 +17,10 @@ def is_number(thing):
     return is_integer(thing) and thing >= 0
 
 
+def is_truth(thing):
+    return isinstance(thing, bool)
+
+
 def is_pair(thing):
     return is_list(thing) and len(thing) == 2
 
@@ -103,3 +107,11 @@ def are_just_names(thing, names):
 def choice_place(names):
     """What THE ORDER OF CHOICES compares: shorter lists stand ahead."""
     return (len(names), names)
+
+
+def choices(things):
+    """All lists of some of an ascending list of things, ascending, in THE ORDER OF CHOICES."""
+    found = [[]]
+    for thing in things:
+        found = found + [chosen + [thing] for chosen in found]
+    return sorted(found, key=choice_place)

@@ -63,17 +63,25 @@ def checked_patches(patches):
     return {name: found[name] for name in sorted(found)}
 
 
-def check_lacks(patches):
-    """Lacks for the first patch that tells what is not there, and for the first such thing."""
+def lacking(patches):
+    """The pair of the first patch that tells what is not there, and of the first such thing, or None."""
     put = {line: True for patch in patches.values() for line in patch.own_lines()}
     for name, patch in patches.items():
         ordered = [line for order in patch.orders() for line in order]
         for line in ordered + patch.burials():
             if line not in put:
-                raise Lacks(name, line)
+                return (name, line)
         for other, line in patch.backs():
             if other not in patches or line not in patches[other].burials():
-                raise Lacks(name, (other, line))
+                return (name, (other, line))
+    return None
+
+
+def check_lacks(patches):
+    """Lacks for the first patch that tells what is not there, and for the first such thing."""
+    told = lacking(patches)
+    if told is not None:
+        raise Lacks(told[0], told[1])
 
 
 def check_rounds(patches):

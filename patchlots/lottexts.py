@@ -35,14 +35,20 @@ def drafts_told(text):
         raise BadText(0)
     drafts = []
     for index, row in enumerate(rows_told(text)):
-        kind, blank, rest = row.partition(" ")
-        if kind == "patch":
-            if not is_name(rest) or (len(drafts) > 0 and rest <= drafts[-1][0]):
-                raise BadText(index)
-            drafts.append([rest, [], [], [], []])
-        elif blank == "" or len(drafts) == 0 or not took(drafts[-1], kind, rest):
+        if not took_row(drafts, row):
             raise BadText(index)
     return drafts
+
+
+def took_row(drafts, row):
+    """Whether drafts took what a row behind those ahead tells, a further draft if it is of a patch."""
+    kind, blank, rest = row.partition(" ")
+    if kind != "patch":
+        return blank != "" and len(drafts) > 0 and took(drafts[-1], kind, rest)
+    if not is_name(rest) or (len(drafts) > 0 and rest <= drafts[-1][0]):
+        return False
+    drafts.append([rest, [], [], [], []])
+    return True
 
 
 def took(draft, kind, text):

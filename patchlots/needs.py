@@ -22,6 +22,11 @@ def part_of_names(lot, names):
     return Lot([lot.patch_of(name) for name in names])
 
 
+def lot_with(lot, patch):
+    """The lot with a patch more."""
+    return Lot([lot.patch_of(name) for name in lot.names()] + [patch])
+
+
 def sent_to(one, other):
     """The names of the other lot that the one lacks, in the order in which they can come."""
     check_parted(one, other)

@@ -172,9 +172,8 @@ def path_told(places, entry):
     return tuple(path[::-1]) if above is None else None
 
 
-def paths_of(tree):
-    """The dict from the live entries to their paths from the root on, None if the tree does not read."""
-    places = live_places(tree)
+def paths_in(places):
+    """The dict from live entries to their paths, None if one has not one place, its own, or comes not to the root."""
     told = [place for entry in places for place in places[entry]]
     if len(told) > len(places) or len(set(told)) < len(places):
         return None
@@ -182,6 +181,17 @@ def paths_of(tree):
     if any([paths[entry] is None for entry in paths]):
         return None
     return paths
+
+
+def paths_of(tree):
+    """The dict from the live entries to their paths from the root on, None if the tree does not read."""
+    return paths_in(live_places(tree))
+
+
+def lost_in(places):
+    """Those of the live entries that stand in a dead directory."""
+    return [entry for entry, told in places.items()
+            if any([above is not None and above not in places for above, _ in told])]
 
 
 def rounds_from(nexts, start):
@@ -207,8 +217,7 @@ def troubles(tree):
     live = list(places)
     inside = [(entry, above) for entry in live for above, _ in places[entry] if above is not None]
     several = [("places", entry) for entry in live if len(places[entry]) > 1]
-    in_dead = {entry: True for entry, above in inside if above not in places}
-    lost = [("lost", entry) for entry in live if entry in in_dead]
+    lost = [("lost", entry) for entry in lost_in(places)]
     same = [("same", one, other) for index, one in enumerate(live) for other in live[index + 1:]
             if any([place in places[other] for place in places[one]])]
     nexts = nexts_of(live, sorted({pair for pair in inside if pair[1] in places}))

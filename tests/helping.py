@@ -4,6 +4,8 @@ import random
 from itertools import combinations, permutations, product
 
 from patchlots.bares import Bare
+from patchlots.hands import Hands
+from patchlots.houses import House
 from patchlots.lots import Lot, page_of
 from patchlots.pages import Page
 from patchlots.patches import Patch
@@ -21,6 +23,7 @@ JUNK = [
     {"a": 1}, {("a", 0): "x"}, [None], [[["a", 0]]], ["a", True], ["a", 0, 0], ("A", 0), ("a", -1),
     (("a", 0),), [("a", 0), ("a", 0), 3], Page({}, [], []), Patch("a", []), Lot([]), Bare([], [], []),
     [{}], (Page({}, [], []), 0), [[], []], FileTree({}, {}, []), [FileTree({}, {}, [])],
+    Hands({"a": Lot([])}), House(), [House()],
 ]
 
 
@@ -60,7 +63,7 @@ def as_tuples(thing):
     return thing
 
 
-def random_page(rng, most=6, rings=True):
+def random_page(rng, most=6, rings=True, dying=(0, 0.3)):
     """A page of lines of a few names, their orders along a hidden row if no rings may be."""
     lines = [(rng.choice("abc"), rng.randrange(4)) for _ in range(rng.randint(0, most))]
     lines = list(dict.fromkeys(lines))
@@ -68,7 +71,7 @@ def random_page(rng, most=6, rings=True):
     pairs = list(permutations(lines, 2)) if rings else list(combinations(lines, 2))
     share = rng.choice([0.1, 0.2, 0.4, 0.7])
     orders = [pair for pair in pairs if rng.random() < (share / 2 if rings else share)]
-    dead = [line for line in lines if rng.random() < rng.choice([0, 0.3])]
+    dead = [line for line in lines if rng.random() < rng.choice(dying)]
     return Page({line: rng.choice(["", "x", "y z"]) for line in lines}, orders, dead)
 
 
@@ -126,6 +129,14 @@ def least_in(parts):
 
 def greatest_in(parts):
     return [names for names in parts if not any(set(other) > set(names) for other in parts)]
+
+
+def random_hands(rng, most=4):
+    """Hands with parts of one lot."""
+    lot = random_lot(rng, 6) if rng.random() < 0.4 else random_short_lot(rng, 5, 3, 0.4, 0.4)
+    parts = slow_parts(lot)
+    names = rng.sample(["h", "k", "m", "z9"], rng.randint(1, most))
+    return Hands({name: Lot([lot.patch_of(other) for other in rng.choice(parts)]) for name in names})
 
 
 def random_change(rng, text):
@@ -244,6 +255,70 @@ def slow_common_rows(one, other):
     for row in rows:
         rows += [row + [(i, j)] for i, j in matches if not row or (row[-1][0] < i and row[-1][1] < j)]
     return rows
+
+
+def random_tree(rng, most=5):
+    entries = rng.sample([("a", 0), ("a", 1), ("b", 0), ("b", 1), ("c", 0), ("c", 1)], rng.randint(0, most))
+    kinds = {entry: rng.choice(["directory", "directory", "file"]) for entry in entries}
+    directories = [None] + [entry for entry in entries if kinds[entry] == "directory"]
+    sure = rng.random() < 0.5
+    placings = {}
+    for entry in entries:
+        marks = [("m", number) for number in rng.sample(range(40), 40) if ("m", number) not in placings]
+        mine = []
+        for mark in marks[:1 if sure else rng.choice([1, 1, 2, 3])]:
+            olds = [old for old in mine if rng.random() < 0.5]
+            above = rng.choice(directories)
+            word = f"w{entry[0]}{entry[1]}" if rng.random() < 0.7 else rng.choice("pq")
+            placings[mark] = (entry, (above, word), olds)
+            mine.append(mark)
+    dead = [entry for entry in entries if rng.random() < rng.choice([0, 0.2])]
+    items = list(placings.items())
+    rng.shuffle(items)
+    return FileTree(kinds, dict(items), dead)
+
+
+def random_reading_tree(rng, most=5):
+    """A tree that reads: each entry stands in the root or in an earlier directory, under a word of its own."""
+    kinds, placings = {}, {}
+    for number in range(rng.randint(0, most)):
+        above = rng.choice([None, None] + [entry for entry, kind in kinds.items() if kind == "directory"])
+        entry = ("e", number)
+        kinds[entry] = rng.choice(["directory", "directory", "file"])
+        placings[("m", number)] = (entry, (rng.choice([None, above]), f"w{number}"), [])
+    dead = [entry for entry in kinds if rng.random() < 0.1 and not any(
+        place[0] == entry for _, place, _ in placings.values())]
+    return FileTree(kinds, placings, dead)
+
+
+def random_steps(rng, tree, most=4, kinds="mmmmkb"):
+    """Steps that can be done on a tree by one who has done none there."""
+    live = {entry: tree.entries()[entry] for entry in tree.alive()}
+    steps = []
+    for _ in range(rng.randint(0, most)):
+        directories = [None] + [entry for entry, kind in live.items() if kind == "directory"]
+        place = (rng.choice(directories), rng.choice("pqrst"))
+        step = rng.choice(kinds)
+        if step == "k":
+            kind = rng.choice(["directory", "file"])
+            live[("new", len(steps))] = kind
+            steps.append(("make", kind, place))
+        elif live and step == "m":
+            steps.append(("move", rng.choice(list(live)), place))
+        elif live:
+            steps.append(("bury", rng.choice(list(live))))
+            del live[steps[-1][1]]
+    return steps
+
+
+def called_by(name, steps):
+    """The steps as the hand of this name does them: what it makes is called by it."""
+    def told(thing):
+        if isinstance(thing, tuple):
+            return (name, thing[1]) if thing[0] == "new" else tuple(told(item) for item in thing)
+        return thing
+
+    return [told(step) for step in steps]
 
 
 def seeds(count):

@@ -15,7 +15,7 @@ NODES = (
     ast.Assign, ast.AugAssign, ast.For, ast.While, ast.If, ast.Raise, ast.Expr, ast.Name, ast.Constant, ast.Attribute,
     ast.Subscript, ast.Slice, ast.Call, ast.List, ast.Tuple, ast.Dict, ast.ListComp, ast.DictComp, ast.SetComp,
     ast.comprehension, ast.BoolOp, ast.BinOp, ast.UnaryOp, ast.Compare, ast.IfExp, ast.JoinedStr, ast.FormattedValue,
-    ast.Starred, ast.keyword, ast.expr_context, ast.boolop, ast.operator, ast.unaryop, ast.cmpop,
+    ast.Starred, ast.keyword, ast.Try, ast.expr_context, ast.boolop, ast.operator, ast.unaryop, ast.cmpop,
 )
 BUILTINS = set("""len range enumerate zip min max sum sorted reversed str list tuple set isinstance any all""".split())
 KINDS = {"str", "int", "bool", "list", "tuple", "dict"}
@@ -93,6 +93,28 @@ class Language(unittest.TestCase):
                 self.assertIsInstance(node.value, ast.Constant)
                 self.assertIsInstance(node.target, ast.Name)
 
+    def test_trying(self):
+        """What is tried is done behind all the same: no error is caught, and plain names are told again."""
+        for name, node in self.walk():
+            if isinstance(node, ast.Try):
+                self.assertEqual([node.handlers, node.orelse], [[], []], name)
+                for row in node.finalbody:
+                    self.assertIsInstance(row, ast.Assign)
+                    self.assertIsInstance(row.targets[0], ast.Attribute)
+                    self.assertIsInstance(row.value, ast.Name)
+
+    def test_stars(self):
+        for name, tree in TREES.items():
+            above = parents(tree)
+            for node in ast.walk(tree):
+                if isinstance(node, ast.Starred) and isinstance(above[node], ast.Call):
+                    self.assertEqual(above[node].keywords, [], name)
+                    for item in above[node].args[above[node].args.index(node):]:
+                        told = item.value if isinstance(item, ast.Starred) else item
+                        self.assertIsInstance(told, (ast.Name, ast.Constant), (name, node.lineno))
+                if isinstance(node, ast.Starred):
+                    self.assertIsInstance(above[node], (ast.Call, ast.List, ast.Tuple), (name, node.lineno))
+
     def test_module_level(self):
         for name, tree in TREES.items():
             for node in tree.body[1:]:
@@ -152,6 +174,8 @@ class Language(unittest.TestCase):
                 if not isinstance(node, ast.Call):
                     continue
                 if isinstance(node.func, ast.Name):
+                    if node.func.id == "work":
+                        continue
                     self.assertIn(node.func.id, own | BUILTINS, (name, node.lineno))
                     if node.func.id in BUILTINS:
                         self.assertTrue({word.arg for word in node.keywords} <= {"key", "default", "reverse"})

@@ -9,7 +9,7 @@ from patchlots.errors import (
 )
 from patchlots.pages import Page
 from patchlots.trees import FileTree, paths_of, troubles
-from tests.helping import JUNK, A, as_lists, as_tuples, caught, exact, seeds
+from tests.helping import JUNK, A, as_lists, as_tuples, caught, exact, random_tree, seeds
 
 A0, A1, B0, C0 = ("a", 0), ("a", 1), ("b", 0), ("c", 0)
 M0, M1, M2, M3 = ("m", 0), ("m", 1), ("m", 2), ("m", 3)
@@ -21,27 +21,6 @@ EMPTY = FileTree({}, {}, [])
 
 def told(tree):
     return [tree.entries(), tree.placings(), tree.dead(), tree.alive()]
-
-
-def random_tree(rng, most=5):
-    entries = rng.sample([("a", 0), ("a", 1), ("b", 0), ("b", 1), ("c", 0), ("c", 1)], rng.randint(0, most))
-    kinds = {entry: rng.choice(["directory", "directory", "file"]) for entry in entries}
-    directories = [None] + [entry for entry in entries if kinds[entry] == "directory"]
-    sure = rng.random() < 0.5
-    placings = {}
-    for entry in entries:
-        marks = [("m", number) for number in rng.sample(range(40), 40) if ("m", number) not in placings]
-        mine = []
-        for mark in marks[:1 if sure else rng.choice([1, 1, 2, 3])]:
-            olds = [old for old in mine if rng.random() < 0.5]
-            above = rng.choice(directories)
-            word = f"w{entry[0]}{entry[1]}" if rng.random() < 0.7 else rng.choice("pq")
-            placings[mark] = (entry, (above, word), olds)
-            mine.append(mark)
-    dead = [entry for entry in entries if rng.random() < rng.choice([0, 0.2])]
-    items = list(placings.items())
-    rng.shuffle(items)
-    return FileTree(kinds, dict(items), dead)
 
 
 def slow_places(tree, entry):
