@@ -4,7 +4,9 @@ import random
 from itertools import combinations, permutations, product
 
 from patchlots.bares import Bare
+from patchlots.errors import PatchError
 from patchlots.hands import Hands
+from patchlots.histories import histories
 from patchlots.houses import House
 from patchlots.lots import Lot, page_of
 from patchlots.pages import Page
@@ -137,6 +139,69 @@ def random_hands(rng, most=4):
     parts = slow_parts(lot)
     names = rng.sample(["h", "k", "m", "z9"], rng.randint(1, most))
     return Hands({name: Lot([lot.patch_of(other) for other in rng.choice(parts)]) for name in names})
+
+
+def random_new_patch(rng, name, known):
+    """A patch that tells its own lines and some of these."""
+    own = [(name, number) for number in range(rng.choice([0, 1, 1, 2]))]
+    pairs = list(combinations(known + own, 2)) if rng.random() < 0.9 else list(permutations(known + own, 2))
+    return Patch(name, [rng.choice("xyz") for _ in own], rng.sample(pairs, min(len(pairs), rng.choice([0, 1, 2, 3]))),
+                 [line for line in known if rng.random() < 0.15])
+
+
+def random_deed(rng, house, number, kinds="cclrrrrttssffffddmmmukkk"):
+    """A deed, tuples throughout, that a house does or refuses, for what is there or not there."""
+    hands = house.hands()
+    some = list(hands) + ["g", "h", "k", "l"][:rng.choice([1, 1, 4])]
+    hand, other = rng.choice(some), rng.choice(some)
+    word = rng.choice(["m", "n", "o"])
+    lot = hands.get(hand, Lot([]))
+    name = f"p{number}" if rng.random() < 0.9 else rng.choice(lot.names() + ["p0", "p1"])
+    kind = rng.choice(kinds)
+    if kind == "c":
+        return ("come", rng.choice(["g", "h", "k", "l", "h1"]))
+    if kind == "l":
+        return ("leave", hand) if rng.random() < 0.4 else ("shed", hand, ())
+    if kind == "r":
+        known = [line for line in page_of(lot).lines() if line[0] != name] + [("zz", 0)] * (rng.random() < 0.1)
+        return ("record", hand, random_new_patch(rng, name, known))
+    if kind == "t":
+        return ("type", hand, name, tuple(random_text(rng, 3)))
+    if kind == "s":
+        return ("settle", hand, name)
+    if kind in "fd":
+        there = (hands.get(other, Lot([])) if kind == "f" else lot).names() + ["p0"] * (rng.random() < 0.1)
+        names = tuple(rng.sample(there, min(len(there), rng.randint(0, 2))))
+        if kind == "d":
+            return ("shed", hand, names)
+        other = other if other != hand else "q"
+        return ("fetch", hand, other, None if rng.random() < 0.5 else names)
+    return {"m": ("mark", word, hand), "u": ("unmark", word), "k": ("take", hand, word)}[kind]
+
+
+def house_of_lot(rng, lot, hands):
+    """A house in which one hand has all of a lot, and others some of it."""
+    house = House()
+    house.do(("come", "all"))
+    for name in histories(lot)[0]:
+        house.do(("record", "all", lot.patch_of(name)))
+    for hand in hands:
+        house.do(("come", hand))
+        house.do(("fetch", hand, "all", rng.sample(lot.names(), min(len(lot), rng.randint(0, 2)))))
+    return house
+
+
+def random_house(rng, most=25, kinds="ccrrrrttssffffdmmuk"):
+    """A house behind some drawn deeds, those left out that it refuses."""
+    house = House()
+    for hand in rng.sample(["g", "h", "k", "l"], rng.randint(0, 4)):
+        house.do(("come", hand))
+    for number in range(rng.randint(0, most)):
+        try:
+            house.do(random_deed(rng, house, number, kinds))
+        except PatchError:
+            pass
+    return house
 
 
 def random_change(rng, text):

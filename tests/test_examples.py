@@ -1,27 +1,38 @@
-"""Points 19, 31, 42, 50, 59, 71, 79 and 86: the examples, as they are written."""
+"""Points 19, 31, 42, 50, 59, 71, 79, 86, 94, 102, 111, 117 and 126: the examples, as they are written."""
 
 import unittest
 
+from patchlots.against import answers_against, are_against
 from patchlots.bares import Bare
 from patchlots.clashes import clashes, keeping_patch, lost_lines
 from patchlots.columns import columns, richest_stay, scattered
 from patchlots.commonrows import many_common_rows, matches_in_all, surely_kept
 from patchlots.crossing import lot_of_run
 from patchlots.differences import cut_text, difference, is_difference
+from patchlots.forgetting import page_without, why_kept
 from patchlots.gluing import glued
+from patchlots.hands import Hands
 from patchlots.histories import histories, how_many_histories, how_many_parts, is_history, parts_of
+from patchlots.houses import House
+from patchlots.inverses import apart_later, apart_now, taken_out
+from patchlots.later import both_read, kept_page, parting_company, told_apart
 from patchlots.lots import Lot, page_of
+from patchlots.moves import claims, fewest_moves
 from patchlots.needs import rounds_of
+from patchlots.origins import tried_parts
 from patchlots.overtexts import clash_over, texts_over
 from patchlots.pages import Page
 from patchlots.patches import Patch
+from patchlots.pieces import pieces_of
 from patchlots.places import passed
 from patchlots.readable import odd_pairs, readable_parts
-from patchlots.reading import gone, reading, text_of, unordered
+from patchlots.reading import gone, is_ahead, reading, text_of, unordered
 from patchlots.rows import how_many_rows, rows_of
 from patchlots.runs import all_leads, stuck_pairs
+from patchlots.searching import fewest_askings, is_search, search
 from patchlots.settling import cheapest_settlement, fewest_orders
 from patchlots.stays import always_stay, longest_stay, stay_levels
+from patchlots.treedeeds import deed_done, least_clashes
 from patchlots.trees import FileTree, troubles
 from patchlots.turning import greatest_straight, least_ordering, least_turning
 
@@ -118,12 +129,87 @@ class Examples(unittest.TestCase):
             self.assertEqual(cut_text(one, told), other)
 
     def test_86(self):
-        kinds = dict.fromkeys([A0, B0, C0], "directory")
-        placings = {A0: (A0, (None, "a"), []), B0: (B0, (None, "b"), []), C0: (C0, (None, "c"), [])}
-        moved = {("x", 0): (A0, (B0, "a"), [A0]), ("y", 0): (B0, (C0, "b"), [B0]), ("z", 0): (C0, (A0, "c"), [C0])}
-        trees = [FileTree(kinds, {**placings, mark: triple}, []) for mark, triple in moved.items()]
-        self.assertEqual([troubles(trees[at] | trees[at - 1]) for at in range(3)], [[], [], []])
-        self.assertEqual(troubles(trees[0] | trees[1] | trees[2]), [("round", ("a", 0), ("b", 0), ("c", 0))])
+        tree = FileTree({}, {}, [])
+        for name in "abc":
+            tree = deed_done(tree, name, [("make", "directory", (None, name))])
+        deeds = {"x": [("move", A0, (B0, "a"))], "y": [("move", B0, (C0, "b"))], "z": [("move", C0, (A0, "c"))]}
+        done = [deed_done(tree, name, steps) for name, steps in deeds.items()]
+        self.assertEqual([troubles(done[at] | done[at - 1]) for at in range(3)], [[], [], []])
+        self.assertEqual(least_clashes(tree, deeds), [["x", "y", "z"]])
+        together = done[0] | done[1] | done[2]
+        self.assertEqual(troubles(together), [("round", ("a", 0), ("b", 0), ("c", 0))])
+        self.assertEqual(fewest_moves(together), [("a", 0)])
+        self.assertEqual(claims(together), [([("a", 0), ("b", 0), ("c", 0)], 1)])
+
+    def test_94(self):
+        a = Patch("a", ["x", "y"], [(A0, A1)])
+        b = Patch("b", ["m"], [(A0, B0), (B0, A1)])
+        lot = Lot([a, b, Patch("c", [], burials=[A0])])
+        for name in ("c", "b"):
+            self.assertIsNone(apart_now(lot, name, "z"))
+            self.assertIsNone(apart_later(lot, name, "z"))
+        self.assertEqual(taken_out(lot, "c"), Lot([a, b]))
+        self.assertTrue(is_ahead(page_of(taken_out(lot, "b")), A0, A1))
+        alone = Patch("a", ["x", "y"])
+        lot = Lot([alone, Patch("e", [], [(("a", 0), ("a", 1))])])
+        self.assertEqual(apart_now(lot, "e", "z"), ("ahead", ("a", 0), ("a", 1)))
+        self.assertEqual(len(pieces_of(a)), 1)
+        self.assertEqual(pieces_of(alone), [[("says", 0)], [("says", 1)]])
+
+    def test_102(self):
+        lot = Lot([Patch("a", ["x", "y"], [(A0, A1)]), Patch("b", ["m"], [(A0, B0), (B0, A1)]), Patch("c", [], burials=[A0])])
+        askings = [[], ["a"], ["a", "b"], ["a", "c"], ["a", "b", "c"]]
+        self.assertEqual(tried_parts(lot), askings)
+        suspects = ["a", "b", "c"]
+        self.assertEqual(fewest_askings(suspects, askings), 2)
+        self.assertTrue(is_search(suspects, askings, (1, "a", (2, "b", "c"))))
+        self.assertTrue(is_search(suspects, askings, search(suspects, askings)))
+        self.assertTrue(are_against(suspects, askings, 1, answers_against(suspects, askings, 1)))
+        self.assertIsNone(answers_against(suspects, askings, 2))
+
+    def test_111(self):
+        a = Patch("a", ["x", "y"], [(A0, A1)])
+        b = Patch("b", [], burials=[A0])
+        c = Patch("c", ["z"], [(A0, C0), (C0, A1)])
+        hands = Hands({"h": Lot([a, b]), "k": Lot([a]), "m": Lot([a, b, c])})
+        self.assertEqual(why_kept(hands, "h", A0), ("live", ["k"]))
+        behind = hands.behind_pulls([("k", "h")])
+        self.assertEqual(why_kept(behind, "h", A0), ("told", "c"))
+        behind = behind.behind_pulls([("h", "m")])
+        self.assertIsNone(why_kept(behind, "h", A0))
+        page = page_of(behind.lots_told()["h"])
+        self.assertEqual(page_without(page, [A0]), Page({A1: "y", C0: "z"}, [(("c", 0), ("a", 1))], []))
+
+    def test_117(self):
+        lines = {A0: "x", A1: "y", B0: "z"}
+        one = Page(lines, [(A0, B0), (B0, A1)], [B0])
+        other = Page(lines, [(A0, A1), (B0, A1)], [B0])
+        self.assertEqual(told_apart(one, other), ("ahead", ("a", 0), ("b", 0)))
+        self.assertEqual([reading(one), reading(other)], [[A0, A1], [A0, A1]])
+        company = parting_company(one, other)
+        self.assertEqual(company.dead(), [A0, A1])
+        first, last = company.live()[1:]
+        self.assertEqual(company.orders(), [(B0, last), (first, A0)])
+        self.assertEqual(both_read(one, other, company), ([first, last], None))
+        self.assertEqual(kept_page(one, [A0, A1]), kept_page(other, [A0, A1]))
+
+    def test_126(self):
+        def house_with(text):
+            house = House()
+            for deed in (("come", "a"), ("record", "a", Patch("p", ["x"])), ("come", "b"), ("fetch", "b", "a", None),
+                         ("type", "a", "q", ["x", "y"]), ("type", "b", "r", text)):
+                house.do(deed)
+            return house
+
+        self.assertEqual(house_with(["z", "x"]).would("a", "b"), (["z", "x", "y"], []))
+        house = house_with(["x", "z"])
+        self.assertEqual(house.would("a", "b"), (None, [("apart", ("q", 0), ("r", 0))]))
+        house.do(("come", "c"))
+        house.do(("fetch", "c", "a", None))
+        house.do(("fetch", "c", "b", None))
+        patch = keeping_patch(house.lot_at("c"), "s")
+        self.assertEqual(house.do(("record", "c", patch)), (["s"], []))
+        self.assertIn(house.text_at("c"), (["x", "y", "z"], ["x", "z", "y"]))
 
 
 if __name__ == "__main__":

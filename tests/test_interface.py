@@ -1,22 +1,12 @@
-"""The section "The interface": names, parameters, and in which file each stands; point 3 by names."""
+"""The section "The interface": names, parameters, and in which file each stands."""
 
 import importlib
 import inspect
+import pathlib
+import re
 import unittest
 
-from patchlots.bares import Bare, bare_of, put_together
-from patchlots.crossing import lot_of_run, run_of_lot
-from patchlots.histories import how_many_histories, how_many_parts, is_history, least_alike
-from patchlots.lots import Lot
-from patchlots.lottexts import read_lot, write_lot
-from patchlots.needs import longest_needs, rounds_of
-from patchlots.pages import Page
-from patchlots.places import is_change, made_by, turned_back
-from patchlots.reading import gone, reading, ring, text_of, unordered
-from patchlots.rows import how_many_rows, rows_of, seen
-from patchlots.runs import all_leads, stuck_pairs, text_behind
-from tests.helping import A, B, C, D, exact
-
+DOC = pathlib.Path(__file__).resolve().parent.parent.parent / "shared" / "DOC.md"
 FUNCTIONS = {
     "reading": "is_ahead(page, one, other) between(page, one, other) reading(page) text_of(page) unordered(page) "
                "ring(page) is_ring(page, thing) gone(page)",
@@ -58,6 +48,24 @@ FUNCTIONS = {
     "threetexts": "gaps(base, one, other, left, right) merged(base, one, other, left, right) "
                   "merge_somehow(base, one, other) clash_somehow(base, one, other) all_merged(base, one, other)",
     "trees": "paths_of(tree) troubles(tree)",
+    "treedeeds": "deed_done(tree, name, steps) least_clashes(tree, deeds)",
+    "moves": "fewest_moves(tree) claims(tree) are_claims(tree, thing)",
+    "inverses": "taken_out(lot, name) inverse_of(patch, called) with_inverse(lot, name, called) "
+                "apart_now(lot, name, called) apart_later(lot, name, called) shows_later(lot, name, called, thing)",
+    "pieces": "items_of(patch) pieces_of(patch) is_parting(patch, thing) held_by(patch, one, other) "
+              "is_held(patch, one, other, thing) in_pieces(lot, name, called)",
+    "joined": "joined_lot(lot, names, called) between_chain(lot, names)",
+    "origins": "story_of(lot, line) ahead_by(lot, one, other) dead_by(lot, line) tried_parts(lot)",
+    "searching": "possible_ones(suspects, askings, answers, lies=0) never_parted(suspects, askings) "
+                 "is_search(suspects, askings, thing, lies=0) fewest_askings(suspects, askings, lies=0) "
+                 "search(suspects, askings, lies=0) ask_next(suspects, askings, answers, lies=0)",
+    "against": "answers_against(suspects, askings, many, lies=0) are_against(suspects, askings, many, thing, lies=0)",
+    "hands": "comes_to(hands, name) enough_pulls(hands)",
+    "coming": "can_live(hands, line) can_die(hands, name, line) can_fail(hands, name)",
+    "forgetting": "why_kept(hands, name, line) forgettable(hands, name) page_without(page, lines)",
+    "later": "shared_lines(one, other) is_company(one, other, thing) both_read(one, other, more) "
+             "told_apart(one, other) parting_company(one, other) kept_page(page, lines)",
+    "housetexts": "write_house(house) read_house(text)",
 }
 CLASSES = {
     ("pages", "Page"): "__init__(self, lines, orders, dead) lines(self) orders(self) dead(self) live(self) "
@@ -71,6 +79,13 @@ CLASSES = {
                        "aheads(self) __len__(self) __eq__(self, other)",
     ("trees", "FileTree"): "__init__(self, entries, placings, dead) entries(self) placings(self) dead(self) "
                            "alive(self) places_of(self, entry) __or__(self, other) __eq__(self, other)",
+    ("hands", "Hands"): "__init__(self, kept) lots_told(self) whole_lot(self) behind_pulls(self, pulls) "
+                        "__eq__(self, other)",
+    ("houses", "House"): "__init__(self) do(self, deed) hands(self) marks(self) lot_at(self, hand) text_at(self, hand) "
+                         "clashes_at(self, hand) who_has(self, name) news(self, hand, other) would(self, hand, other) "
+                         "together(self, hands) calm_turns(self, hand, others) stuck_turns(self, hand, others) "
+                         "count(self) undo(self) again(self) deeds(self) at(self, number) trial(self, work) copy(self) "
+                         "__eq__(self, other)",
 }
 
 
@@ -100,29 +115,26 @@ class Interface(unittest.TestCase):
             self.assertEqual(made.__bases__, (object,))
             self.check(made, text, module)
 
+    def test_nothing_of_the_interface_lacks(self):
+        """The tables above tell all that the document's section lists, where the document is there."""
+        if not DOC.exists():
+            self.skipTest("no document beside the project")
+        text = DOC.read_text(encoding="utf-8").split("# The interface")[1]
+        told = set(re.findall(r"`patchlots/(\w+)\.py`", text)) - {"errors"}
+        self.assertEqual(told, set(FUNCTIONS) | {name for name, _ in CLASSES})
+        for row in text.split("\n- ")[2:]:
+            name = re.match(r"`patchlots/(\w+)\.py`", row).group(1)
+            known = " ".join([FUNCTIONS.get(name, "")] + [told for (file, _), told in CLASSES.items() if file == name])
+            listed = re.findall(r"`([a-z_]+\([^`]*\))`", row)
+            self.assertNotEqual(listed, [], name)
+            for call in listed:
+                method = call.replace("(", "(self, ").replace("(self, )", "(self)")
+                self.assertTrue(call in known or method in known, call)
+
     def test_the_package_binds_no_names(self):
         package = importlib.import_module("patchlots")
         own = [name for name, thing in vars(package).items() if not name.startswith("__") and not inspect.ismodule(thing)]
         self.assertEqual(own, [])
-
-    def test_by_names_as_by_position(self):
-        lot = Lot([A, B, C, D])
-        page = Page({("a", 0): "x", ("b", 0): "y"}, [(("a", 0), ("b", 0)), (("b", 0), ("a", 0))], [("b", 0)])
-        for call in (reading, text_of, unordered, ring, gone, rows_of, how_many_rows, seen, bare_of):
-            self.assertTrue(exact(call(page=page), call(page)))
-        for call in (rounds_of, longest_needs, how_many_histories, how_many_parts, least_alike, write_lot):
-            self.assertTrue(exact(call(lot=lot), call(lot)))
-        self.assertEqual(read_lot(text=write_lot(lot)), lot)
-        self.assertIs(is_history(lot=lot, thing=("a", "b", "c", "d")), True)
-        change, run = (0, ["a"], ["b"]), [("p", (0, ["a"], ["b"]))]
-        self.assertIs(is_change(thing=change), True)
-        self.assertEqual(turned_back(change=change), (0, ["b"], ["a"]))
-        self.assertEqual(made_by(text=["a"], change=change), ["b"])
-        for call in (text_behind, all_leads, stuck_pairs):
-            self.assertTrue(exact(call(run=run, text=["a"]), call(["a"], run)))
-        made = lot_of_run(ground="g", text=["a"], run=run)
-        self.assertEqual(run_of_lot(ground="g", lot=made, names=["p"]), run)
-        self.assertEqual(put_together(bare=Bare(told=["x"], arrows=[], dead=[]), classes=[0]), Bare(["x"], [], []))
 
 
 if __name__ == "__main__":
