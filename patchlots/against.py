@@ -48,10 +48,8 @@ def answers_against(suspects, askings, many, lies=0):
 
 def are_two_left(suspects, state, thing):
     """Whether any object is a pair of unlike suspects that are possible."""
-    if not is_pair(thing) or not isinstance(thing[0], str) or not isinstance(thing[1], str):
-        return False
     left = left_in(suspects, state)
-    return thing[0] in left and thing[1] in left and thing[0] != thing[1]
+    return is_pair(thing) and thing[0] in left and thing[1] in left and thing[0] != thing[1]
 
 
 def are_answers(thing, many):

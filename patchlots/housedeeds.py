@@ -129,8 +129,7 @@ def state_behind(state, deed):
 
 def names_changed(state, behind, deed):
     """The pair of the names of the patches that the lot of a deed's hand has got, and has lost."""
-    if deed[0] in ("mark", "unmark"):
-        return ([], [])
+    # Marks change no hand's lot, also none of a hand that is called like the mark.
     old = state[0].get(deed[1], Lot([]))
     new = behind[0].get(deed[1], Lot([]))
     return ([name for name in new.names() if name not in old], [name for name in old.names() if name not in new])

@@ -36,10 +36,9 @@ def both_read(one, other, more):
 
 
 def ways_among(page, lines):
-    """For each of some lines of a page the mask of those of them that it is ahead of."""
+    """For each of some lines of a page the mask of those that it is ahead of, some lines first."""
     rest = [line for line in page.lines() if line not in lines]
-    everything = (1 << len(lines)) - 1
-    return [mask & everything for mask in ways_between(page, lines + rest)[:len(lines)]]
+    return ways_between(page, lines + rest)[:len(lines)]
 
 
 def first_live_apart(one, other):

@@ -80,8 +80,8 @@ def tree_from(suspects, masks, lies, state, known):
     """A tree of askings of the least height from a state on, from which there is one."""
     index = next_asking(masks, lies, state, known)
     if index is None:
-        left = left_in(suspects, state)
-        return left[0] if len(left) > 0 else None
+        # Behind askings both of whose answers tell something, one at the least is possible.
+        return left_in(suspects, state)[0]
     yes, no = [tree_from(suspects, masks, lies, answered(state, masks[index], answer, lies), known)
                for answer in (True, False)]
     return (index, yes, no)

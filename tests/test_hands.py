@@ -86,7 +86,7 @@ class Hand(unittest.TestCase):
     def test_bad_pull(self):
         for thing in (None, True, 3, "", "hk", {}, HANDS):
             self.assertEqual(caught(BadPull, HANDS.behind_pulls, thing).index, 0)
-        for thing in JUNK + [3, "", "hk", ("h", "h"), ("h",), ("h", "k", "b"), ("h", "z"), ("z", "h"), ("h", None), (["h"], "k"), {"h": 0, "k": 1}]:
+        for thing in JUNK + [3, "", "hk", ("h", "h"), ("h",), ("h", "k", "b"), ("h", "z"), ("z", "h"), ("h", None), (["h"], "k"), ("h", ["k"]), ("h", {}), {"h": 0, "k": 1}]:
             self.assertEqual(caught(BadPull, HANDS.behind_pulls, [("h", "k"), ["k", "b"], thing, None]).index, 2)
         self.assertEqual(caught(BadPull, Hands({"h": Lot([])}).behind_pulls, [("h", "h")]).index, 0)
 
@@ -176,6 +176,14 @@ class Coming(unittest.TestCase):
                 met["fail", bool(failing)] = met.get(("fail", bool(failing)), 0) + 1
         self.assertGreater(min(met.values()), 8)
         self.assertEqual(len(met), 6)
+
+    def test_facts_live_dead_and_live_again(self):
+        ring = Lot([A, C, Patch("q", ["z"], [(A0, ("q", 0))])])
+        hands = Hands({"h": Lot([A]), "k": ring, "l": Lot([A, C, D, B, Patch("q", ["z"], [(A0, ("q", 0))]),
+                                                           Patch("r", [], [(B0, ("q", 0)), (("q", 0), A1)])])})
+        pages = [page_of(hands.behind_pulls([("h", "k"), ("h", "l")][:count]).lots_told()["h"]) for count in range(3)]
+        self.assertEqual([A0 in page.live() for page in pages], [True, False, True])
+        self.assertEqual([reading(page) is not None for page in pages], [True, False, True])
 
     def test_facts_what_is_ahead_stays_ahead(self):
         again = 0

@@ -158,6 +158,21 @@ class Deeds(unittest.TestCase):
         house.do(("unmark", "m"))
         self.assertEqual(house.do(("record", "l", Patch("a", []))), (["a"], []))
 
+    def test_any_words_may_be_typed(self):
+        house = house_behind(*FULL)
+        for text in (["", "Y y", "w" * 200], [], ["1.", "hand h"]):
+            self.assertEqual(house.do(("type", "k", f"t{house.count()}", text))[1], [])
+            self.assertEqual(house.text_at("k"), text)
+
+    def test_hands_and_marks_called_alike(self):
+        house = house_behind(*FULL, ("come", "m"), ("mark", "h", "k"))
+        self.assertTrue(exact(house.do(("mark", "k", "h")), ([], [])))
+        self.assertTrue(exact(house.do(("unmark", "h")), ([], [])))
+        self.assertEqual([list(house.hands()), list(house.marks())], [["h", "k", "l", "m"], ["k", "m"]])
+        self.assertTrue(exact(house.do(("leave", "k")), ([], ["a", "b"])))
+        self.assertEqual([list(house.hands()), list(house.marks())], [["h", "l", "m"], ["k", "m"]])
+        self.assertEqual([house.lot_at("h"), house.marks()["k"]], [Lot([A, C]), Lot([A, C])])
+
     def test_a_deed_that_changes_nothing(self):
         house = house_behind(*FULL)
         hands = house.hands()
@@ -388,6 +403,14 @@ class Turns(unittest.TestCase):
         house.do(("type", "k", "t", []))
         self.assertEqual(house.calm_turns("l", ["k"]), ["k"])
 
+    def test_stuck_turns_in_the_order_of_choices(self):
+        house = house_behind(("come", "h"))
+        for hand in ("p", "o", "q"):
+            house.do(("come", hand))
+            house.do(("record", hand, Patch(hand, [hand])))
+        self.assertTrue(exact(house.stuck_turns("h", ["q", "o", "p"]), [[], ["o"], ["p"], ["q"]]))
+        self.assertIsNone(house.calm_turns("h", ["q", "o", "p"]))
+
     def test_by_definition_and_it_holds(self):
         met = {}
         for rng in seeds(120):
@@ -399,6 +422,13 @@ class Turns(unittest.TestCase):
             self.assertTrue(exact(calm, self.slow_calm(house, hand, others)))
             self.assertTrue(exact(stuck, self.slow_stuck(house, hand, others)))
             self.assertEqual([calm, stuck].count(None), 1)
+            lots = []
+            for order in permutations(others):
+                tried = house.copy()
+                for other in order:
+                    tried.do(("fetch", hand, other, None))
+                lots.append(tried.lot_at(hand))
+            self.assertTrue(all(lot == lots[0] for lot in lots))
             if len(others) > 1:
                 kind = "calm" if stuck is None else "some" if len(stuck) > 1 else "none"
                 met[kind] = met.get(kind, 0) + 1

@@ -104,7 +104,7 @@ class Refused(unittest.TestCase):
 
     def test_rows_not_behind_the_one_ahead(self):
         rows = TEXT.split("\n")[:-1]
-        for at, row in ((10, "patch d"), (11, "patch b"), (12, "says x"), (11, "hand b1 a"), (11, "hand b0"), (12, "hand b1"), (12, "hand h a c"),
+        for at, row in ((10, "patch d"), (11, "patch b"), (12, "says x"), (11, "hand b1 a"), (11, "hand b1 a c"), (15, "mark m c"), (11, "hand b0"), (12, "hand b1"), (12, "hand h a c"),
                         (14, "hand z"), (14, "mark a"), (15, "mark m"), (15, "mark b"), (15, "hand z"), (13, "order a.0 a.1"), (8, "order a.1 a.0")):
             self.check("\n".join(rows[:at] + [row] + rows[at:]) + "\n", at)
 

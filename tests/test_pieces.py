@@ -102,6 +102,12 @@ class Partings(unittest.TestCase):
             met += len(pieces) < len(items) - 1
         self.assertGreater(met, 20)
 
+    def test_an_item_twice_and_another_not_at_all(self):
+        patch = Patch("p", [], [], [A0, B0])
+        self.assertIs(is_parting(patch, [[("bury", A0)], [("bury", A0)]]), False)
+        self.assertIs(is_parting(patch, [[("bury", A0), ("bury", A0)]]), False)
+        self.assertIs(is_parting(patch, [[("bury", B0)], [("bury", A0)]]), True)
+
     def test_any_objects(self):
         patch = Patch("p", ["x"], [(A0, ("p", 0))], [B0], [("c", A0)])
         one, two, three = [("says", 0), ("order", A0, ("p", 0))], [("bury", B0)], [("back", "c", A0)]
@@ -109,7 +115,9 @@ class Partings(unittest.TestCase):
         self.assertIs(is_parting(patch, (one + two + three,)), True)
         for item in JUNK + [3, "", (), "says", ("says",), ("says", 1), ("says", False), ("says", "0"), ("Says", 0), ("says", 0, 0), ("bury", A0),
                             ("bury", "b0"), ("bury", ("b", False)), ("back", "c", B0), ("back", "d", A0), ("back", A0, "c"), ("back", ["c"], A0),
-                            ("order", ("p", 0), A0), ("order", A0), ("order", A0, ("p", 0), 1), (("says",), 0), (None, 0), ([], A0), (patch, 0)]:
+                            ("order", ("p", 0), A0), ("order", A0), ("order", A0, ("p", 0), 1), (("says",), 0),
+                            ("Order", A0, ("p", 0)), ("buried", B0), ("backs", "c", A0), ("order", A0, None), ("order", A0, "c"), ("order", 3, A0),
+                            ("back", "c", None), ("back", "c", "a"), ("back", None, A0), ("bury", None), ("bury", 3), ("bury", "b"), (None, 0), ([], A0), (patch, 0)]:
             for things in ([one, two, three + [item]], [one, two, three, [item]], [[item], two, three], item):
                 self.assertIs(is_parting(patch, things), False)
             self.assertIs(is_parting(Patch("p", ["x"]), [[item]]), False)
@@ -165,6 +173,10 @@ class Held(unittest.TestCase):
     def test_any_objects(self):
         for thing in JUNK + [3, "", [None], [("says", 0), None], ["says", 0], [("says", 0), ("says", True)], {0: ("says", 0)}, [[("says", 0)]]]:
             self.assertIs(is_held(MANY, ("says", 0), ("says", 0), thing), False)
+            self.assertIs(is_held(MANY, ("says", 0), ("says", 0), [("says", 0), thing, ("says", 0)]), False)
+        order, second = ("order", ("p", 0), ("p", 1)), ("says", 1)
+        self.assertIs(is_held(MANY, ("says", 0), second, [order, second]), False)
+        self.assertIs(is_held(MANY, second, ("says", 0), [second, order]), False)
 
     def test_by_definition_and_it_holds(self):
         met = {}

@@ -91,6 +91,7 @@ class Deeds(unittest.TestCase):
             ("make", "file", place, []), ("move", A0), ("move", A0, place, []), ("move", place, A0), ("move", M0, place),
             ("move", A0, (C0, "w")), ("move", A0, (M0, "w")), ("move", None, place), ("Move", A0, place), ("bury ", A0),
             ("move", A0, (("a", False), "w")), (("move",), A0, place), ({}, A0), (TREE, A0, place), "bury", ("move", ("a", 0, 0), place),
+            ("makes", "file", place), ("moves", A0, place), ("buries", A0), (None, "file", place),
         ]
         for thing in bad:
             steps = [("bury", C0), ["make", "directory", [None, "n"]], ("move", ["b", 0], (["x", 1], "w")), thing, None]
@@ -102,6 +103,7 @@ class Deeds(unittest.TestCase):
                 self.assertEqual(caught(BadStep, deed_done, TREE, name, [("bury", B0), thing]).index, 1)
             tree = FileTree(KINDS, PLACINGS, [B0])
             self.assertEqual(caught(BadStep, deed_done, tree, "x", [thing]).index, 0)
+        self.assertEqual(caught(BadStep, deed_done, TREE, "x", [["bury", ["b", 0]], ["bury", ["b", 0]]]).index, 1)
         self.assertEqual(caught(BadStep, deed_done, TREE, "x", [("bury", ("x", 1)), ("make", "file", (None, "w"))]).index, 0)
         self.assertEqual(caught(BadStep, deed_done, TREE, "x", [("make", "file", (None, "w")), ("make", "file", (("x", 0), "w"))]).index, 1)
 
