@@ -20,7 +20,7 @@ def items_of(patch):
 
 def item_told(thing):
     """The item, as it is told, that any object may be, None if it is of no such form."""
-    if not is_list(thing) or len(thing) not in (2, 3) or not isinstance(thing[0], str):
+    if not is_list(thing) or len(thing) not in (2, 3):
         return None
     if len(thing) == 2:
         if thing[0] == "says" and is_integer(thing[1]):

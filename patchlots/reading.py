@@ -42,7 +42,7 @@ def reading(page):
     """The live lines, each ahead of the next, if the page reads, else None."""
     live, masks = live_ways(page)
     # Where a page reads each mask holds all those behind it, so the greater mask stands ahead.
-    row = [place for _, place in sorted([(mask, place) for place, mask in enumerate(masks)])]
+    row = [place for _, place in sorted([(mask, at) for at, mask in enumerate(masks)])]
     rest = 0
     for place in row:
         if masks[place] != rest:

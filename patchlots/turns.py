@@ -26,7 +26,7 @@ def first_turns(lot, others):
                     row = found[names] + [name]
                     key = tuple(sorted(row))
                     grown[key] = min(row, grown.get(key, row))
-        level = [key for key in grown if reads_with(lot, [others[name] for name in key])]
+        level = [key for key in grown if reads_with(lot, [others[other] for other in key])]
         for key in level:
             found[key] = grown[key]
     return found

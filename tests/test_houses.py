@@ -466,6 +466,8 @@ class BackAndOn(unittest.TestCase):
         house = House()
         for deed in (["come", "h"], ["come", "k"], ["type", "h", "q", ["x", "y"]], ["fetch", "k", "h", ["q"]], ["shed", "k", ["q"]], ["fetch", "k", "h", None]):
             house.do(deed)
+            if isinstance(deed[-1], list):
+                deed[-1].append("more")
             deed.append("more")
         wanted = [("come", "h"), ("come", "k"), ("type", "h", "q", ("x", "y")), ("fetch", "k", "h", ("q",)), ("shed", "k", ("q",)),
                   ("fetch", "k", "h", None)]

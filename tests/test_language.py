@@ -201,7 +201,8 @@ class Language(unittest.TestCase):
                 if called_name(node) in AT_ONCE:
                     holder = above[node]
                     good = isinstance(holder, (ast.For, ast.comprehension)) and holder.iter is node
-                    good = good or called_name(holder) in HOLDERS and isinstance(holder.func, ast.Name)
+                    if called_name(holder) in HOLDERS and isinstance(holder.func, ast.Name):
+                        good = good or called_name(holder) == "zip" or holder.args[0] is node
                     if called_name(node) == "range":
                         good = good or called_name(holder) in ("len", "reversed")
                     elif called_name(holder) in ("min", "max"):
@@ -230,6 +231,7 @@ class Language(unittest.TestCase):
                     self.check_stored_set(name, holder, above)
                 else:
                     self.assertIn(called_name(holder), ("sorted", "len"), (name, node.lineno))
+                    self.assertEqual(holder.keywords, [], (name, node.lineno))
 
     def check_stored_set(self, name, row, above):
         word = row.targets[0].id
@@ -248,6 +250,27 @@ class Language(unittest.TestCase):
                 self.assertIs(holder.comparators[0], node)
             elif not isinstance(holder, ast.Assign):
                 self.assertIn(called_name(holder), ("sorted", "len"), (name, node.lineno))
+
+    def test_names_in_comprehensions(self):
+        """Within another comprehension a variable has a name of its own."""
+        kinds = (ast.ListComp, ast.DictComp, ast.SetComp)
+
+        def stored(node):
+            return {item.id for item in ast.walk(node) if isinstance(item, ast.Name) and isinstance(item.ctx, ast.Store)} - {"_"}
+
+        for name, tree in TREES.items():
+            for function in functions(tree):
+                made = [node for node in ast.walk(function) if isinstance(node, kinds)]
+                within = {item for node in made for item in ast.walk(node)}
+                plain = {item.id for item in ast.walk(function) if isinstance(item, ast.Name)
+                         and isinstance(item.ctx, ast.Store) and item not in within}
+                plain |= {item.arg for item in ast.walk(function) if isinstance(item, ast.arg)}
+                for inner in made:
+                    around = [node for node in made if node is not inner and inner in set(ast.walk(node))]
+                    own = set().union(*[stored(part.target) for part in inner.generators])
+                    if around:
+                        further = [stored(part.target) for node in around for part in node.generators]
+                        self.assertEqual(own & plain.union(*further), set(), (name, inner.lineno))
 
     def test_is_and_none(self):
         for name, node in self.walk():

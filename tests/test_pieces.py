@@ -165,7 +165,8 @@ class Held(unittest.TestCase):
         self.assertIs(is_held(MANY, line, second, []), False)
 
     def test_no_item(self):
-        for thing in JUNK + [3, "", (), ("says", 4), ("says", -1), ("says", True), ("bury", A1), ("order", A1, A0), ("back", "b", A0), ("says",)]:
+        for thing in JUNK + [3, "", (), ("says", 4), ("says", -1), ("says", True), ("bury", A1), ("order", A1, A0), ("back", "b", A0), ("says",),
+                             ("Order", A0, A1), ("buried", A0), ("backs", "b", A1), ("say", 0), (("order",), A0, A1)]:
             for call in (held_by, lambda patch, one, other: is_held(patch, one, other, None)):
                 self.assertIs(caught(NoItem, call, MANY, thing, None).thing, thing)
                 self.assertIs(caught(NoItem, call, MANY, ("says", 0), thing).thing, thing)
