@@ -7,7 +7,6 @@ from patchlots.coming import can_die, can_fail, can_live
 from patchlots.errors import BadHands, BadPull, NoHand, NoLine, Parted
 from patchlots.hands import Hands, comes_to, enough_pulls
 from patchlots.lots import Lot, page_of
-from patchlots.pages import Page
 from patchlots.patches import Patch
 from patchlots.reading import is_ahead, reading
 from tests.helping import A, B, C, D, JUNK, as_lists, caught, exact, random_hands, seeds
@@ -176,6 +175,14 @@ class Coming(unittest.TestCase):
                 met["fail", bool(failing)] = met.get(("fail", bool(failing)), 0) + 1
         self.assertGreater(min(met.values()), 8)
         self.assertEqual(len(met), 6)
+
+    def test_lines_that_come_with_a_later_pull(self):
+        far = Patch("f", ["z"], [(A1, ("f", 0))])
+        hands = Hands({"h": Lot([]), "k": Lot([A]), "m": Lot([A, far]), "n": Lot([A, far, Patch("g", [], burials=[("f", 0)])])})
+        self.assertTrue(exact(can_die(hands, "h", ("f", 0)), ["n"]))
+        self.assertTrue(exact(can_live(hands, ("f", 0)), ["m"]))
+        self.assertIsNone(can_die(hands, "h", A0))
+        self.assertEqual([names for names, _ in comes_to(hands, "h")], [[], ["a"], ["a", "f"], ["a", "f", "g"]])
 
     def test_facts_live_dead_and_live_again(self):
         ring = Lot([A, C, Patch("q", ["z"], [(A0, ("q", 0))])])

@@ -13,7 +13,7 @@ from patchlots.lots import Lot, page_of
 from patchlots.needs import greatest_without, least_with, sent_to
 from patchlots.patches import Patch
 from patchlots.reading import reading, text_of
-from tests.helping import A, B, C, D, JUNK, as_lists, caught, exact, house_of_lot, random_deed, random_house, random_short_lot, seeds
+from tests.helping import A, B, C, JUNK, as_lists, caught, exact, house_of_lot, random_deed, random_house, random_short_lot, seeds
 
 A0, A1, B0 = ("a", 0), ("a", 1), ("b", 0)
 
@@ -217,18 +217,14 @@ class Deeds(unittest.TestCase):
             (("shed", "z", ["q"]), NoHand, "name", "z"), (("unmark", "h"), NoMark, "name", "h"), (("take", "z", "q"), NoHand, "name", "z"),
             (("take", "h", "q"), NoMark, "name", "q"), (("fetch", "z", "y", None), NoHand, "name", "z"),
         ]
-        before = told(house)
+        house.do(("come", "last"))
         house.undo()
-        after = ahead(house)
+        before = [told(house), ahead(house)]
         for deed, error, name, thing in cases:
-            if thing == house_behind(*FULL, ("record", "l", unread)).hands()["l"]:
-                continue
-            self.assertEqual(getattr(caught(error, house.do, as_lists(deed)), name), thing)
-        self.assertEqual(ahead(house), after)
-        house.again()
-        for deed, error, name, thing in cases:
-            self.assertEqual(getattr(caught(error, house.do, deed), name), thing)
-        self.assertEqual(told(house), before)
+            for form in (deed, as_lists(deed)):
+                self.assertEqual(getattr(caught(error, house.do, form), name), thing)
+        self.assertEqual([told(house), ahead(house)], before)
+        self.assertEqual(ahead(house), [("come", "last")])
 
     def test_lacks(self):
         house = house_behind(("come", "h"), ("come", "k"), ("record", "k", A), ("record", "k", C))
@@ -267,6 +263,16 @@ class Deeds(unittest.TestCase):
 
 
 class Told(unittest.TestCase):
+    def test_a_house_without_hands(self):
+        house = House()
+        self.assertTrue(exact([house.hands(), house.marks(), house.count(), house.deeds(), house.who_has("a")], [{}, {}, 0, [], []]))
+        self.assertTrue(exact([house.together([]), house.undo(), house.again()], [([], []), None, None]))
+        self.assertEqual([house.at(0), house.copy()], [house, house])
+        self.assertEqual(caught(NoHand, house.lot_at, "h").name, "h")
+        self.assertEqual(caught(NoMark, house.do, ("unmark", "m")).name, "m")
+        self.assertEqual(house.trial(lambda given: given.do(("come", "h"))), ([], []))
+        self.assertEqual(house, House())
+
     def test_hands_and_marks(self):
         house = house_behind(("come", "k"), ("come", "h"), ("mark", "z", "h"), ("mark", "m", "k"))
         self.assertEqual([list(house.hands()), list(house.marks())], [["h", "k"], ["m", "z"]])

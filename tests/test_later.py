@@ -126,6 +126,17 @@ class Apart(unittest.TestCase):
         self.assertIsNone(told_apart(one, Page({A0: "x", A1: "y", B0: ""}, [(A0, A1)], [B0])))
         self.assertIsNone(told_apart(Page({A0: "x", B0: "p"}, [(A0, B0)], [B0]), Page({A0: "x", B0: "q"}, [(B0, A0)], [B0])))
 
+    def test_pages_that_share_nothing(self):
+        one, other = Page({A0: "x", B0: "y"}, [(A0, B0), (B0, A0)], [A0, B0]), Page({A1: "z"}, [], [A1])
+        for first, second in ((one, other), (one, Page({}, [], [])), (one, Page({A0: "q", B0: "y"}, [], [A0]))):
+            self.assertEqual(told_apart(first, Page({A1: "z"}, [], [A1])), None)
+            self.assertIsNone(parting_company(first, Page({A1: "z"}, [], [A1])))
+            if second.live() == []:
+                self.assertIsNone(told_apart(second, first))
+        more = Page({C0: "c", ("d", 0): "d"}, [(("d", 0), C0)], [])
+        self.assertEqual(both_read(one, other, more), ([("d", 0), C0], [("d", 0), C0]))
+        self.assertEqual(told_apart(one, Page({A1: "z"}, [], [])), ("live", A1))
+
     def test_one_line_told_twice(self):
         words = {A0: "x", A1: "y", B0: "", C0: ""}
         one = Page(words, [(A1, B0), (B0, A1), (A0, A1)], [B0, C0])

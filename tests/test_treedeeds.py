@@ -10,17 +10,7 @@ from patchlots.trees import FileTree, paths_of, troubles
 from tests.helping import (
     JUNK, as_lists, called_by, caught, exact, random_reading_tree, random_steps, random_tree, seeds,
 )
-
-A0, B0, C0 = ("a", 0), ("b", 0), ("c", 0)
-M0, M1, M2 = ("m", 0), ("m", 1), ("m", 2)
-KINDS = {A0: "directory", B0: "directory", C0: "file"}
-PLACINGS = {M0: (A0, (None, "top"), []), M1: (B0, (A0, "sub"), []), M2: (C0, (B0, "leaf"), [])}
-TREE = FileTree(KINDS, PLACINGS, [])
-EMPTY = FileTree({}, {}, [])
-
-
-def told(tree):
-    return [tree.entries(), tree.placings(), tree.dead(), tree.alive()]
+from tests.test_trees import A0, B0, C0, EMPTY, KINDS, M0, M1, M2, PLACINGS, TREE, told
 
 
 def slow_done(tree, name, steps):
